@@ -1,0 +1,1 @@
+"""Kindscarried: a compiler that keeps kinds down to the code."""

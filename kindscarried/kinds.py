@@ -1,0 +1,233 @@
+"""Kinds: their form, and the variables that they bind."""
+
+CORE_WORDS = ("cell", "int", "one", "rec", "row", "some", "to")
+CLOSED_WORDS = ("cell", "int", "not", "one", "rec", "row", "some")
+STORED_WORDS = ("cell", "int", "not", "one", "rec", "room", "some")
+CODE_WORDS = ("cell", "code", "int", "one", "rec", "room", "some")
+
+MOST_VARIABLES = 10000
+# What stands behind each word, member by member.
+SLOTS = {
+    "int": (),
+    "free": ("index",),
+    "var": ("index",),
+    "row": ("kinds",),
+    "one": ("one or more",),
+    "cell": ("kind",),
+    "some": ("kind",),
+    "rec": ("unlike a variable",),
+    "to": ("many", "kinds", "kind"),
+    "not": ("many", "kinds"),
+    "room": ("places",),
+    "code": ("many", "regs"),
+}
+
+
+def is_kind(free, value, words):
+    """Whether the value is a whole kind with these free variables and words."""
+    pending = [(value, 0)]
+    while pending:
+        kind, bound = pending.pop()
+        if not _has_form(kind, words):
+            return False
+        if kind[0] == "free" and kind[1] >= free:
+            return False
+        if kind[0] == "var" and kind[1] >= bound:
+            return False
+        deeper = bound + bound_by(kind)
+        for inner in inner_kinds(kind):
+            pending.append((inner, deeper))
+    return True
+
+
+def _has_form(value, words):
+    """Whether the value is a kind, whatever the kinds in it may be."""
+    if type(value) is not tuple or not value or type(value[0]) is not str:
+        return False
+    word = value[0]
+    if word not in SLOTS or (word not in words and word not in ("free", "var")):
+        return False
+    slots = SLOTS[word]
+    if len(value) != len(slots) + 1:
+        return False
+    return all([_fills_slot(slot, member) for slot, member in zip(slots, value[1:])])
+
+
+def _fills_slot(slot, member):
+    if slot == "kind":
+        return True
+    if slot == "index":
+        return type(member) is int and member >= 0
+    if slot == "many":
+        return type(member) is int and 0 <= member <= MOST_VARIABLES
+    if type(member) is not tuple:
+        return False
+    if slot == "one or more":
+        return len(member) > 0
+    if slot == "unlike a variable":
+        return member[:1] != ("free",) and member[:1] != ("var",)
+    if slot == "places":
+        return all([_is_pair(place) and type(place[1]) is bool for place in member])
+    if slot == "regs":
+        return _are_regs(member)
+    return True
+
+
+def _is_pair(value):
+    return type(value) is tuple and len(value) == 2
+
+
+def _are_regs(rows):
+    """Whether these are pairs that begin with rising integers from 0 on."""
+    last = -1
+    for row in rows:
+        if not _is_pair(row) or type(row[0]) is not int or row[0] <= last:
+            return False
+        last = row[0]
+    return True
+
+
+def bound_by(kind):
+    """How many variables a kind binds in the kinds right in it."""
+    if kind[0] in ("some", "rec"):
+        return 1
+    if kind[0] in ("to", "not", "code"):
+        return kind[1]
+    return 0
+
+
+def inner_kinds(kind):
+    """The tuple of the kinds right in a kind."""
+    word = kind[0]
+    if word in ("row", "one"):
+        return kind[1]
+    if word in ("cell", "some", "rec"):
+        return (kind[1],)
+    if word == "to":
+        return kind[2] + (kind[3],)
+    if word == "not":
+        return kind[2]
+    if word == "room":
+        return tuple([place[0] for place in kind[1]])
+    if word == "code":
+        return tuple([row[1] for row in kind[2]])
+    return ()
+
+
+def _with_inner(kind, inner):
+    """The kind with others in the places of the kinds right in it."""
+    word = kind[0]
+    if word in ("row", "one"):
+        return (word, inner)
+    if word in ("cell", "some", "rec"):
+        return (word, inner[0])
+    if word == "to":
+        return ("to", kind[1], inner[:-1], inner[-1])
+    if word == "not":
+        return ("not", kind[1], inner)
+    if word == "room":
+        return ("room", tuple([(new, old[1]) for new, old in zip(inner, kind[1])]))
+    if word == "code":
+        return ("code", kind[1], _new_regs(kind, inner))
+    return kind
+
+
+def _new_regs(kind, inner):
+    return tuple([(old[0], new) for new, old in zip(inner, kind[2])])
+
+
+def _remade(whole, leaf):
+    """The kind with leaf(kind, bound) in the place of each "free" and "var".
+
+    bound is how many variables are bound between the whole and this place.
+    It goes without recursion: kinds of later levels are nested some hundreds deep.
+    """
+    done = []
+    pending = [(whole, 0, False)]
+    while pending:
+        kind, bound, ready = pending.pop()
+        if ready:
+            start = len(done) - len(inner_kinds(kind))
+            inner = tuple(done[start:])
+            del done[start:]
+            done.append(_with_inner(kind, inner))
+        elif kind[0] in ("free", "var"):
+            done.append(leaf(kind, bound))
+        else:
+            pending.append((kind, bound, True))
+            deeper = bound + bound_by(kind)
+            for inner_kind in reversed(inner_kinds(kind)):
+                pending.append((inner_kind, deeper, False))
+    return done[0]
+
+
+def _without_first(kind, kinds):
+    """The kinds right in a binder, its first variables being these kinds."""
+    def leaf(part, bound):
+        if part[0] == "free" or part[1] < bound:
+            return part
+        index = part[1] - bound
+        return kinds[index] if index < len(kinds) else ("var", part[1] - len(kinds))
+
+    return tuple([_remade(inner, leaf) for inner in inner_kinds(kind)])
+
+
+def opened(kind, kinds):
+    """The inside of a binder with these kinds in the places of its variables."""
+    inner = _without_first(kind, kinds)
+    if kind[0] == "to":
+        return (inner[:-1], inner[-1])
+    if kind[0] == "not":
+        return inner
+    if kind[0] == "code":
+        return _new_regs(kind, inner)
+    return inner[0]
+
+
+def opened_first(kind, kinds):
+    """The "not" or "code" whose first variables are these kinds."""
+    left = (kind[0], kind[1] - len(kinds), kind[2])
+    return _with_inner(left, _without_first(kind, kinds))
+
+
+def unfolded(kind):
+    """The inside of a "rec" with itself in the place of the variable."""
+    return opened(kind, (kind,))
+
+
+def shut(kind, order):
+    """The inside of a binder whose variables these free ones become."""
+    indexes = {number: index for index, number in enumerate(order)}
+
+    def leaf(part, bound):
+        if part[0] == "free" and part[1] in indexes:
+            return ("var", indexes[part[1]] + bound)
+        return part
+
+    return _remade(kind, leaf)
+
+
+def filled(kind, kinds):
+    """The kind with these kinds in the places of its free variables."""
+    return with_free(kind, lambda number: kinds[number])
+
+
+def with_free(kind, told):
+    """The kind with told(j) in the place of each ("free", j)."""
+    def leaf(part, bound):
+        return told(part[1]) if part[0] == "free" else part
+
+    return _remade(kind, leaf)
+
+
+def fits(kind, wanted):
+    """Whether a thing of the kind may stand where the wanted kind is asked for."""
+    if kind == wanted:
+        return True
+    if kind[0] != "room" or wanted[0] != "room" or len(kind[1]) != len(wanted[1]):
+        return False
+    return all([_place_fits(place, other) for place, other in zip(kind[1], wanted[1])])
+
+
+def _place_fits(place, other):
+    return place[0] == other[0] and (place[1] or not other[1])

@@ -1,0 +1,23 @@
+"""How many parts a kind or a term has, and how deep they are nested."""
+
+
+def keeps_within(whole, most_parts, most_deep):
+    """Whether so many tuples that begin with a word, nested so deep, are enough.
+
+    Kinds, found kinds and core terms are measured alike: each of their parts
+    is a tuple that begins with a word, and no other tuple in them does.
+    """
+    parts = 0
+    pending = [(whole, 1)]
+    while pending:
+        value, depth = pending.pop()
+        deeper = depth
+        if value and type(value[0]) is str:
+            parts = parts + 1
+            if parts > most_parts or depth > most_deep:
+                return False
+            deeper = depth + 1
+        for member in value:
+            if type(member) is tuple:
+                pending.append((member, deeper))
+    return True
