@@ -56,7 +56,7 @@ class Judge:
     """
 
     def __init__(self, program, binders):
-        self.terms = dict(placed_terms(program[1]))
+        self.terms = {place: term for place, term in placed_terms(program[1])}
         self.places = list(self.terms)
         self.binders = binders
         self.by_word = data_table(program[0])
