@@ -5,6 +5,7 @@ from kindscarried.errors import IllKinded
 from kindscarried.integers import SUM_WORDS, is_index, is_program_integer
 from kindscarried.kinds import CORE_WORDS, is_kind, opened, unfolded
 from kindscarried.measures import keeps_within
+from kindscarried.shapes import begins_with_word
 
 INT = ("int",)
 NOTHING = ("row", ())
@@ -55,9 +56,7 @@ def _is_small(kind):
 
 def _has_form(value, free):
     """Whether the value is a term, whatever the terms in it may be."""
-    if type(value) is not tuple or not value or type(value[0]) is not str:
-        return False
-    if value[0] not in SLOTS:
+    if not begins_with_word(value) or value[0] not in SLOTS:
         return False
     slots = SLOTS[value[0]]
     if len(value) != len(slots) + 1:

@@ -1,5 +1,7 @@
 """Found kinds as tuples: their form, and what is put in them."""
 
+from kindscarried.shapes import begins_with_word
+
 
 def is_found_kind(value, free, by_word):
     """Whether any value is a found kind over these datas, with so many free variables."""
@@ -20,7 +22,7 @@ def are_found_kinds(value, many, free, by_word):
 
 
 def _has_form(value, free, by_word):
-    if type(value) is not tuple or not value or type(value[0]) is not str:
+    if not begins_with_word(value):
         return False
     word, many = value[0], len(value)
     if word == "int":

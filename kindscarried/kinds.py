@@ -1,5 +1,7 @@
 """Kinds: their form, and the variables that they bind."""
 
+from kindscarried.shapes import begins_with_word
+
 CORE_WORDS = ("cell", "int", "one", "rec", "row", "some", "to")
 CLOSED_WORDS = ("cell", "int", "not", "one", "rec", "row", "some")
 STORED_WORDS = ("cell", "int", "not", "one", "rec", "room", "some")
@@ -42,7 +44,7 @@ def is_kind(free, value, words):
 
 def _has_form(value, words):
     """Whether the value is a kind, whatever the kinds in it may be."""
-    if type(value) is not tuple or not value or type(value[0]) is not str:
+    if not begins_with_word(value):
         return False
     word = value[0]
     if word not in SLOTS or (word not in words and word not in ("free", "var")):

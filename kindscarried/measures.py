@@ -1,5 +1,7 @@
 """How many parts a kind or a term has, and how deep they are nested."""
 
+from kindscarried.shapes import begins_with_word
+
 
 def keeps_within(whole, most_parts, most_deep):
     """Whether so many tuples that begin with a word, nested so deep, are enough.
@@ -12,7 +14,7 @@ def keeps_within(whole, most_parts, most_deep):
     while pending:
         value, depth = pending.pop()
         deeper = depth
-        if value and type(value[0]) is str:
+        if begins_with_word(value):
             parts = parts + 1
             if parts > most_parts or depth > most_deep:
                 return False

@@ -2,6 +2,7 @@
 
 from kindscarried.errors import InvalidPart
 from kindscarried.integers import SUM_WORDS, is_program_integer
+from kindscarried.shapes import begins_with_word
 
 KEYWORDS = ("cell", "data", "else", "fn", "fun", "get", "if", "in", "int", "let", "match", "say", "then")
 SMALL_LETTERS = "abcdefghijklmnopqrstuvwxyz"
@@ -114,7 +115,7 @@ def _is_written_kind(value):
 
 def _has_kind_form(value):
     """Whether the value is a written kind, whatever the kinds in it may be."""
-    if type(value) is not tuple or not value or type(value[0]) is not str:
+    if not begins_with_word(value):
         return False
     word, many = value[0], len(value)
     if word == "int":
@@ -187,9 +188,7 @@ def term_measures(whole):
 
 def _has_term_form(value):
     """Whether the value is a term, whatever the terms in it may be."""
-    if type(value) is not tuple or not value or type(value[0]) is not str:
-        return False
-    if value[0] not in SLOTS:
+    if not begins_with_word(value) or value[0] not in SLOTS:
         return False
     slots = SLOTS[value[0]]
     if len(value) != len(slots) + 1:
