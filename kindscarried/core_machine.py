@@ -78,7 +78,7 @@ class Machine:
 
     def outcome(self):
         thing = self.enter(self.root, (), (), 1, 0)
-        while thing is None or self.frames:
+        while self.frames:
             if thing is not None:
                 self.frames[-1].keep(thing)
             frame = self.frames[-1]

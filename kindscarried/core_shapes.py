@@ -42,10 +42,8 @@ def evaluated_terms(term):
 
 
 def names_bound(term):
-    """How many names a term binds in its body, or in each of its bodies."""
-    if term[0] == "fun":
-        return 1 + len(term[2])
-    return 1 if term[0] in ("let", "match", "open") else 0
+    """How many names a term binds in its body: a "fun" also that of itself, others one."""
+    return 1 + len(term[2]) if term[0] == "fun" else 1
 
 
 def kinds_bound(term):

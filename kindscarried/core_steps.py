@@ -63,10 +63,6 @@ def _is_spot(term, cells):
     return term[0] == "spot" and term[1] < len(cells)
 
 
-def _give_name(term, cells, letters):
-    return None
-
-
 def _give_sum(term, cells, letters):
     _, word, first, second = term
     if first[0] != "int" or second[0] != "int":
@@ -143,9 +139,9 @@ def _give_say(term, cells, letters):
 
 
 GIVES = {
-    "name": _give_name, "sum": _give_sum, "when": _give_when, "let": _give_let, "call": _give_call,
-    "part": _give_part, "match": _give_match, "cell": _give_cell, "get": _give_get,
-    "set": _give_set, "unfold": _give_unfold, "open": _give_open, "say": _give_say,
+    "sum": _give_sum, "when": _give_when, "let": _give_let, "call": _give_call, "part": _give_part,
+    "match": _give_match, "cell": _give_cell, "get": _give_get, "set": _give_set,
+    "unfold": _give_unfold, "open": _give_open, "say": _give_say,
 }
 
 

@@ -85,6 +85,10 @@ class Raised(Case):
                          ("let", ("row", (name(0), name(3))), ("fun", 1, (free(0), ("var", 0)), free(9),
                           ("open", name(9), ("hide", free(1), ("call", name(13), (free(11), ("some", ("row", (free(10), ("var", 0))))), (name(10),)), PACK)))))
         self.assertEqual(raised(name(3), 1, 0, 4), name(3))
+        both = ("fold", ("rec", ("row", (free(1),))), name(0))
+        self.assertEqual(raised(both, 1, 0), ("fold", ("rec", ("row", (free(1),))), name(1)))
+        self.assertEqual(raised(both, 0, 1), ("fold", ("rec", ("row", (free(2),))), name(0)))
+        self.assertEqual(raised(both, 1, 1), ("fold", ("rec", ("row", (free(2),))), name(1)))
         self.assertEqual(raised(name(4), 1, 0, 4), name(5))
         self.assertEqual(raised(name(4), 1, 0), name(5))
         self.assertEqual(raised(("fold", ("rec", free(1)), name(0)), 0, 2, 0, 2), ("fold", ("rec", free(1)), name(0)))

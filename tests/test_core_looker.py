@@ -131,6 +131,8 @@ class Rules(LookerCase):
         self.ill((), ("match", tag, (name(0),)))
         self.ill((), ("match", tag, (ONE, ONE, ONE)))
         self.ill((), ("match", tag, ()))
+        self.ill((), ("match", row(ONE, ONE), (ONE, ONE)))
+        self.ill((), ("match", UNIT, ()))
         self.ill((), ("match", tag, (ONE, UNIT)))
         self.ill((2, 1), ("match", tag, (ONE, name(1))))
         self.ill((2, 0), ("match", tag, (BAD, BAD)))

@@ -1,8 +1,10 @@
+import random
 import time
 import unittest
 
 from kindscarried.core import evaluated, is_done
 from kindscarried.core_looker import core_judged, core_kind
+from kindscarried.core_machine import Machine
 from kindscarried.core_steps import run_steps, stepped
 from kindscarried.errors import IllKinded, InvalidCount, Stuck, TooMany
 from kindscarried.source_texts import source_told
@@ -55,6 +57,32 @@ def run_by_steps(program, beats):
             state = stepped(state)
         except TooMany:
             return ("many",)
+
+
+def bounded_run(program, beats, most_parts, most_deep):
+    """The outcome by stepped, with other bounds on the parts and the depth of each next term."""
+    state = (program, (), ())
+    while True:
+        place = next_place(state[0])
+        if place is None:
+            return ("done", state[0][1], state[2])
+        if part_at(state[0], place)[0] == "call":
+            if beats == 0:
+                return ("spent", state[2])
+            beats -= 1
+        state = stepped(state)
+        if parts(state[0]) > most_parts or depth(state[0]) > most_deep:
+            return ("many",)
+
+
+def parts(value):
+    inner = sum(parts(member) for member in value if isinstance(member, tuple))
+    return inner + int(bool(value) and isinstance(value[0], str))
+
+
+def depth(value):
+    inner = max([0] + [depth(member) for member in value if isinstance(member, tuple)])
+    return inner + int(bool(value) and isinstance(value[0], str))
 
 
 def run(program, beats):
@@ -153,7 +181,7 @@ class Stucks(Case):
     def test_each_form(self):
         one = ("one", (INT, INT))
         for term in [("sum", "add", UNIT, ONE), ("sum", "less", ONE, F), ("sum", "same", ("spot", 0), ("spot", 0)), ("when", UNIT, ONE, ONE),
-                     ("call", ONE, (), ()), ("call", F, (), ()), ("call", F, (), (ONE, ONE)), ("call", F, (INT,), (ONE,)),
+                     ("call", ONE, (), ()), ("call", ("int", 0), (), ()), ("call", ("spot", 0), (), ()), ("call", F, (), ()), ("call", F, (), (ONE, ONE)), ("call", F, (INT,), (ONE,)),
                      ("call", ("fun", 1, (), INT, ONE), (), ()), ("part", ONE, 0), ("part", UNIT, 0), ("part", ("row", (ONE,)), 1),
                      ("part", ("tag", 0, one, ONE), 0), ("match", ONE, (ONE,)), ("match", ("tag", 1, one, ONE), (ONE,)), ("match", ("tag", 0, one, ONE), ()),
                      ("match", ("fold", LIST, ("tag", 0, one, ONE)), (ONE, ONE)), ("get", ONE), ("get", ("spot", 1)), ("get", ("row", (ONE,))),
@@ -334,6 +362,23 @@ class RunSteps(Case):
             program = ("part", ("row", (program, ("part", row, 0))), 0)
             self.assertIsNone(core_judged(program))
             self.assertEqual(run(program, 0), run_by_steps(program, 0), many)
+
+    def test_sizes_as_step_by_step(self):
+        """With bounds by chance the machine tells just when the next term would be beyond them."""
+        rng = random.Random(20)
+        told = {}
+        for seed in range(500):
+            program = CoreMaker(seed).program(rng.choice((10, 25, 50)))
+            most_parts, most_deep = rng.choice(((rng.randrange(5, 150), 1000), (10 ** 6, rng.randrange(2, 16))))
+            wanted = bounded_run(program, 20, most_parts, most_deep)
+            try:
+                outcome = Machine(program, 20, most_parts, most_deep).outcome()
+            except TooMany as error:
+                self.assertEqual(error.count, most_parts)
+                outcome = ("many",)
+            self.assertEqual(outcome, wanted, (seed, most_parts, most_deep))
+            told[wanted[0]] = told.get(wanted[0], 0) + 1
+        self.assertGreater(min(told["many"], told["done"]), 50)
 
     def test_many_beats(self):
         start = time.time()

@@ -122,6 +122,33 @@ class Bounds(Case):
         self.assertEqual(depth(carried_kind((), ("fun", (), nested("cell", 18, INT)))), 20)
         self.great("", ("fun", (), nested("cell", 19, INT)))
 
+    def test_depth_in_each(self):
+        deep = nested("cell", 18, INT)
+        text = "data d ( a ) = D ( int , a ) | E ( d ( a ) ) ; data e ( a , b ) = F ( fn ( b ) b , ( b , b ) , a ) ;"
+        for kind in (("fun", (INT, deep), INT), ("fun", (), deep), ("row", (INT, deep)), ("cell", deep)):
+            self.assertEqual(depth(carried_kind((), kind)), 20)
+            self.great("", ("cell", kind))
+        less = nested("cell", 16, INT)
+        self.assertEqual(depth(carried_kind(datas(text), ("data", "d", (less,)))), 20)
+        self.great(text, ("data", "d", (("cell", less),)))
+        less = nested("cell", 15, INT)
+        self.assertEqual(depth(carried_kind(datas(text), ("data", "e", (INT, less)))), 20)
+        self.great(text, ("data", "e", (INT, ("cell", less))))
+        # The variable of the data itself may be the deepest.
+        text = "data d = D ( cell cell cell cell d ) ;"
+        self.assertEqual(depth(carried_kind(datas(text), nested("cell", 12, ("data", "d", ())))), 20)
+        self.great(text, nested("cell", 13, ("data", "d", ())))
+
+    def test_nodes_of_each(self):
+        text = "data d = D ( d , d , d ) ;"
+        seven = carried_kind(datas(text), ("data", "d", ()))
+        self.assertEqual(nodes(seven), 6)
+        for kind, many in [(("data", "d", ()), 6), (INT, 1), (("open", 0), 1), (("free", 0), 1), (("cell", INT), 2), (("row", ()), 1),
+                           (("fun", (), INT), 2), (("fun", (INT, INT), INT), 4), (("row", (INT, INT)), 3)]:
+            whole = ("row", (kind,) + (INT,) * (199 - many))
+            self.assertEqual(nodes(carried_kind(datas(text), whole)), 200)
+            self.great(text, ("row", (kind,) + (INT,) * (200 - many)))
+
     def test_parameters_that_do_not_stand_in_it(self):
         text = "data d ( a ) = D ;"
         kind = ("data", "d", (nested("cell", 40, INT),))

@@ -148,6 +148,15 @@ class Found(Case):
                 "match Rose ( 1 , Cons ( Rose ( 2 , Nil ) , Nil ) ) { Rose ( x , r ) -> match r { Nil -> x | Cons ( y , s ) -> 0 } }")
         self.assertEqual(kind_at(text, (1, 0)), listed(("data", "rose", (INT,))))
 
+    def test_kinds_told_by_options(self):
+        text = ("data d ( a ) = D ( fn ( a , int ) ( a , cell a ) , d ( a ) , cell d ( a ) ) | E ; "
+                "match E { D ( f , x , c ) -> let ( y , z ) = f ( 1 , 2 ) in get z + y + match get c { D ( u , v , w ) -> 3 | E -> 4 } | E -> 0 }")
+        self.assertEqual(kind_at(text, (1, 0, 0)), fun((INT, INT), ("row", (INT, ("cell", INT)))))
+        self.assertEqual(kind_at(text, (1, 1, 1, 0, 0)), ("cell", ("data", "d", (INT,))))
+        text = "data d ( a ) = D ( ( a , int ) , ( ) , cell ( fn ( ) a ) ) ; fun f ( x ) = match x { D ( p , q , r ) -> ( p , q , ( get r ) ( ) ) } in 1"
+        text = text.replace("cell ( fn ( ) a )", "cell fn ( ) a")
+        self.assertEqual(found(source_told(text))[1], (((), 1, (("data", "d", (A,)),), ("row", (("row", (A, INT)), ("row", ()), A))),))
+
     def test_open_kinds_of_a_match_are_new_for_each(self):
         text = LIST + "fun len ( l ) = match l { Nil -> 0 | Cons ( x , r ) -> 1 + len ( r ) } in len ( Cons ( 1 , Nil ) ) + len ( Cons ( ( ) , Nil ) )"
         _, funs, uses = found(source_told(text))
@@ -426,6 +435,26 @@ class Great(Case):
         # The kind put in stands in no kind of a place: the function's own kind has it, the use hands on a great one.
         text = "let a = ( 1 , 1 , 1 , 1 , 1 , 1 ) in let b = ( a , a , a , a , a , a ) in fun f ( x ) = 1 in f ( ( b , b , b , b , b ) )"
         self.unfit(text, (1, 1, 1, 0))
+
+    def test_great_by_themselves_alone(self):
+        # No option of d has its parameter: core kinds stay small, whatever it is.
+        text = ("data d ( a ) = D ; data w ( a ) = W ( d ( a ) , d ( %s ) ) ; fun up ( x ) = match W ( x , D ) { W ( p , q ) -> q } in "
+                "let a = %s D %s in let b = %s a %s in 1")
+
+        def ups(kind, first, second):
+            return text % (kind, "up ( " * first, ") " * first, "up ( " * second, ") " * second)
+        self.assertEqual(kind_at(ups("d ( a )", 9, 8), ()), INT)
+        self.unfit(ups("d ( a )", 9, 9), (1, 1, 0, 0))
+        self.unfit(ups("d ( a )", 9, 10), (1, 1, 0))
+        self.assertEqual(kind_at(ups("( a , a , a , a , a , a )", 1, 1), ()), INT)
+        self.unfit(ups("( a , a , a , a , a , a )", 1, 2), (1, 1, 0))
+        self.unfit(ups("d ( a )", 9, 10).replace("let b =", "fun b ( ) ="), (1, 1))
+        self.unfit(ups("( a , a , a , a , a , a )", 1, 2).replace("let b =", "fun b ( ) ="), (1, 1))
+
+    def test_function_of_a_fun_that_grows_later(self):
+        text = ("let a = %s 1 in let b = %s a in let g = fn ( x ) fun f ( y ) = ( x , y ) in let z = if 1 then x else b in 1 in 1")
+        self.assertEqual(kind_at(text % ("cell " * 9, "cell " * 8), ()), INT)
+        self.unfit(text % ("cell " * 9, "cell " * 9), (1, 1, 0, 0))
 
     def test_the_first_place(self):
         cells = "let x = %s 1 in " % ("cell " * 12)

@@ -25,6 +25,10 @@ TEXTS = (
 )
 
 
+def listed(kind):
+    return ("data", "list", (kind,))
+
+
 def put(kind, news):
     """The value with other kinds in the places of some."""
     if kind in news:
@@ -49,8 +53,24 @@ class Findings(Case):
         for kind in (INT, NOTHING, ("open", 5), ("cell", ("open", 0)), ("fun", (("open", 1),), INT), ("row", (INT,))):
             self.assertIs(is_finding(program, put(finding, {("open", 0): kind})), True)
             self.assertIs(is_finding(program, put(finding, {("open", 1): kind, ("open", 0): NOTHING})), True)
-        for kind in (("free", 0), ("open", -1), ("data", "d", ()), ("var", 0), ("to", 0, (), INT), [], None, ("open", True)):
+        for kind in self.NO_KINDS:
             self.assertIs(is_finding(program, put(finding, {("open", 0): kind})), False)
+            for around in (("cell", kind), ("row", (INT, kind)), ("fun", (kind,), INT), ("fun", (), kind)):
+                self.assertIs(is_finding(program, put(finding, {("open", 0): around})), False)
+        program = source_told(LIST + "data one = One ; let f = fn ( x , y ) x in 3")
+        finding = found(program)
+        for kind in (listed(INT), listed(listed(("open", 9))), ("data", "one", ()), ("fun", (listed(("data", "one", ())),), ("row", (INT,)))):
+            self.assertIs(is_finding(program, put(finding, {("open", 0): kind})), True)
+        for kind in self.NO_KINDS + (("data", "list", ()), ("data", "list", (INT, INT)), ("data", "one", (INT,)), ("data", "two", ()),
+                                     ("data", ["one"], ()), ("data", "one", []), ("data", "one"), ("data", ("one",), ()), ("data", None, ()),
+                                     ("data", "list", [INT]), ("data", "list", INT), ("data", "one", (), ())):
+            for around in (kind, listed(kind), ("cell", kind), ("row", (kind,))):
+                self.assertIs(is_finding(program, put(finding, {("open", 0): around})), False)
+
+    NO_KINDS = (("free", 0), ("open", -1), ("data", "d", ()), ("var", 0), ("to", 0, (), INT), [], None, ("open", True), (), ("int", 0), ("int", ()),
+                ("row",), ("row", [INT]), ("row", INT), ("row", (INT,), ()), ("row", None), ("cell",), ("cell", INT, INT), ("fun", (INT,)),
+                ("fun", [INT], INT), ("fun", INT, INT), ("fun", (), INT, INT), ("open",), ("open", 0, 0), ("open", "0"), ("free", -1),
+                ("free", True), ("some", INT), ("rec", INT), ["int"], "int", 5, (INT,), ("word", "x", ()), ("open", ()))
 
     def test_kinds_in_the_places_of_variables(self):
         program = source_told("fun f ( x ) = x in f ( 1 )")
@@ -257,7 +277,54 @@ class Rules(Case):
         self.wrong(text, {(): INT, (0,): ("data", "d", ()), (1,): NOTHING, (2,): INT})
         self.wrong("data d = D ( int ) ; match 1 { D ( x ) -> x }", {(): INT, (0,): INT, (1,): INT})
 
+    def test_kinds_told_by_options(self):
+        text = ("data d ( a ) = D ( fn ( a , int ) ( a , cell a ) , d ( a ) , cell d ( a ) ) | E ; "
+                "match E { D ( f , x , c ) -> let ( y , z ) = f ( 1 , 2 ) in let w = get c in y | E -> 0 }")
+        program = source_told(text)
+        finding = found(program)
+        kind = ("data", "d", (INT,))
+        self.assertIs(is_finding(program, finding), True)
+        self.assertEqual(dict(finding[0])[(1, 0, 0)], ("fun", (INT, INT), ("row", (INT, ("cell", INT)))))
+        self.assertEqual(dict(finding[0])[(1, 1, 0)], kind)
+        self.assertEqual(dict(finding[0])[(1, 1, 0, 0)], ("cell", kind))
+        self.assertIs(is_finding(program, put(finding, {kind: ("data", "d", (NOTHING,))})), False)
+        for at, (place, told) in enumerate(finding[0]):
+            rows = finding[0][:at] + ((place, ("cell", told)),) + finding[0][at + 1:]
+            self.assertIs(is_finding(program, (rows,) + finding[1:]), False)
+
+    def test_kinds_put_in_the_kind_of_a_fun(self):
+        text = LIST + "fun f ( x , g , c , l , r ) = ( x , g ( x ) , get c , l , r ) in let h = f in let k = h in 1"
+        program = source_told(text)
+        finding = found(program)
+        self.assertIs(is_finding(program, finding), True)
+        news = {("open", k): kind for k, kind in enumerate((INT, ("cell", INT), NOTHING, listed(INT), ("row", (INT, INT))))}
+        self.assertIs(is_finding(program, put(finding, news)), True)
+        text = LIST + "fun f ( g ) = g in f ( fn ( l ) match l { Nil -> ( 1 , cell l ) | Cons ( x , r ) -> ( x , cell r ) } ) ( Nil ) ; 1"
+        program = source_told(text.replace("; 1", "").replace("in f (", "in let ( a , b ) = f (") + " in a")
+        finding = found(program)
+        self.assertIs(is_finding(program, finding), True)
+        text = LIST + "fun f ( g , l , x ) = match l { Nil -> ( g ( l ) , cell x ) | Cons ( y , r ) -> ( y , cell x ) } in let h = f in 1"
+        program = source_told(text)
+        finding = found(program)
+        self.assertEqual(finding[1][0][2], (("fun", (listed(A),), A), listed(A), B))
+        self.assertIs(is_finding(program, put(finding, {("open", 0): INT, ("open", 1): NOTHING})), True)
+        self.assertIs(is_finding(program, (finding[0], finding[1], put(finding[2], {("open", 0): INT}))), False)
+
+    def test_body_of_an_fn(self):
+        text = LIST + "let f = fn ( ) Nil in 1"
+        kinds = {(): INT, (0,): ("fun", (), listed(INT)), (0, 0): listed(INT), (1,): INT}
+        self.right(text, kinds, (((0,), 0, (), listed(INT)),))
+        kinds[(0, 0)] = listed(NOTHING)
+        self.wrong(text, kinds, (((0,), 0, (), listed(INT)),))
+        kinds[(0, 0)] = listed(INT)
+        self.wrong(text, kinds, (((0,), 0, (), listed(NOTHING)),))
+        text = LIST + "fun f ( ) = Nil in 1"
+        kinds = {(): INT, (0,): listed(INT), (1,): INT}
+        self.right(text, kinds, (((), 0, (), listed(INT)),))
+        self.wrong(text, kinds, (((), 0, (), listed(NOTHING)),))
+
     def test_cells_and_the_rest(self):
+        self.wrong("let x = cell 1 := 2 in 3", {(): INT, (0,): INT, (0, 0): ("cell", INT), (0, 0, 0): INT, (0, 1): INT, (1,): INT})
         self.wrong("get 1", {(): INT, (0,): INT})
         self.wrong("cell 1 := ( ) ; 1", {(): INT, (0,): NOTHING, (0, 0): ("cell", INT), (0, 0, 0): INT, (0, 1): NOTHING, (1,): INT})
         self.wrong("say ( ) ; 1", {(): INT, (0,): NOTHING, (0, 0): NOTHING, (1,): INT})

@@ -126,7 +126,7 @@ class Forms(Case):
                                 ((("A", (("fun", (kind,) * many, kind),)),), many <= 6),
                                 ((("A", (("row", (kind,) * many),)),), many <= 6 and many != 1)]:
                 self.assertIs(is_source(((data((), told),), ONE)), right)
-        for wrong in (data()[:2], data() + ((),), list(data()), data([]), data((), []), data((), (["A", ()],)),
+        for wrong in (data()[:2], data() + ((),), list(data()), data([]), data((), []), data((), [("A", ())]), data((), (["A", ()],)),
                       data((), (("A",),)), data((), (("A", [kind]),)), data((), (("A", (), ()),)), 5, None):
             self.assertIs(is_source(((wrong,), ONE)), False)
 

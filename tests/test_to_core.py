@@ -68,6 +68,12 @@ class ToCore(Case):
         self.told("fun f ( x , y ) = x in f ( 1 , ( ) )",
                   ("let", ("fun", 2, (("var", 0), ("var", 1)), ("var", 0), name(1)), ("call", name(0), (INT, NOTHING), (number(1), NOTHING))))
 
+    def test_handed_on_with_several_words(self):
+        self.told("let u = 0 in fun f ( x , y , z ) = y in let g = f in g ( 1 , 2 , ( ) )",
+                  ("let", number(0), ("let", ("fun", 3, (("var", 0), ("var", 1), ("var", 2)), ("var", 1), name(3)),
+                   ("let", ("fun", 0, (INT, INT, NOTHING), INT, ("call", name(1), (INT, INT, NOTHING), (name(3), name(4), name(5)))),
+                    ("call", name(2), (), (number(1), number(2), NOTHING))))))
+
     def test_named_inside_their_own_body(self):
         # Called there it is handed its own variables, elsewhere it becomes a function without.
         self.told("fun f ( x ) = let g = f in g ( f ( x ) ) in f ( 1 )",
