@@ -56,7 +56,8 @@ class Frame:
         """Takes the next evaluated term as done."""
         self.done.append(thing)
         self.parts = self.parts + thing.parts
-        self.done_depth = max(self.done_depth, thing.depth)
+        if thing.depth > self.done_depth:
+            self.done_depth = thing.depth
 
     def made(self, held):
         """The thing that this term is, all that it evaluates being done."""
@@ -79,40 +80,42 @@ class Machine:
     def outcome(self):
         thing = self.enter(self.root, (), (), 1, 0)
         while self.frames:
-            if thing is not None:
-                self.frames[-1].keep(thing)
             frame = self.frames[-1]
-            if len(frame.done) < len(frame.node.inner):
-                thing = self.enter_next(frame)
-            elif frame.node.term[0] == "call" and self.beats == 0:
+            if thing is not None:
+                frame.keep(thing)
+                thing = None
+            if self.enters_inner(frame):
+                continue
+            if frame.node.term[0] == "call" and self.beats == 0:
                 return ("spent", tuple(self.letters))
-            else:
-                self.frames.pop()
-                give = GIVES[frame.node.term[0]]
-                thing = give(self, frame)
+            self.frames.pop()
+            give = GIVES[frame.node.term[0]]
+            thing = give(self, frame)
         return ("done", thing.held, tuple(self.letters))
 
-    def enter_next(self, frame):
-        inner = frame.node.inner[len(frame.done)]
-        return self.enter(inner, frame.things, frame.kinds, frame.level + 1, frame.above_next())
+    def enters_inner(self, frame):
+        """Whether the next term that the frame's one evaluates has a frame now; things are kept as they stand."""
+        inner = frame.node.inner
+        while len(frame.done) < len(inner):
+            node = inner[len(frame.done)]
+            thing = _thing_as_it_stands(node, frame.things, frame.kinds)
+            if thing is None:
+                self.frames.append(Frame(node, frame.things, frame.kinds, frame.level + 1, frame.above_next()))
+                return True
+            frame.keep(thing)
+        return False
 
     def enter(self, node, things, kinds, level, above):
         """The thing that a term is as it stands; None if it has a frame now."""
-        word = node.term[0]
-        if word == "name":
-            return things[node.term[1]]
-        if word == "int":
-            return Thing(1, 1, node.term[1])
-        if word == "fun":
-            parts, depth = node.whole.with_put_in(things, kinds)
-            return Thing(parts, depth, (node, things, kinds))
-        self.frames.append(Frame(node, things, kinds, level, above))
-        return None
+        thing = _thing_as_it_stands(node, things, kinds)
+        if thing is None:
+            self.frames.append(Frame(node, things, kinds, level, above))
+        return thing
 
     def check_next(self, frame, parts, depth):
         """TooMany if the term with so many parts, nested so deep, is too much in the frame's place."""
         self.parts = self.parts + parts - frame.parts
-        if self.parts > self.most_parts or max(frame.above, frame.level - 1 + depth) > self.most_deep:
+        if self.parts > self.most_parts or frame.above > self.most_deep or frame.level - 1 + depth > self.most_deep:
             raise TooMany(self.most_parts)
 
     def give_thing(self, frame, thing):
@@ -124,6 +127,19 @@ class Machine:
         parts, depth = node.whole.with_put_in(things, kinds)
         self.check_next(frame, parts, depth)
         return self.enter(node, things, kinds, frame.level, frame.above)
+
+
+def _thing_as_it_stands(node, things, kinds):
+    """The thing that a term is which evaluates nothing, None of another one."""
+    word = node.term[0]
+    if word == "name":
+        return things[node.term[1]]
+    if word == "int":
+        return Thing(1, 1, node.term[1])
+    if word == "fun":
+        parts, depth = node.whole.with_put_in(things, kinds)
+        return Thing(parts, depth, (node, things, kinds))
+    return None
 
 
 def _give_sum(machine, frame):

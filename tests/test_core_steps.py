@@ -10,7 +10,7 @@ from kindscarried.errors import IllKinded, InvalidCount, Stuck, TooMany
 from kindscarried.source_texts import source_told
 from kindscarried.to_core import to_core
 from tests.common import STRANGE, Case, nested
-from tests.random_core import LIST, PACK, CoreMaker
+from tests.random_core import LIST, PACK, SAME, CoreMaker
 
 INT = ("int",)
 UNIT = ("row", ())
@@ -59,20 +59,16 @@ def run_by_steps(program, beats):
             return ("many",)
 
 
-def bounded_run(program, beats, most_parts, most_deep):
-    """The outcome by stepped, with other bounds on the parts and the depth of each next term."""
+def sizes_by_steps(program, most_steps):
+    """(outcome without bounds or None, rows (parts, depth) of the next term of each step), by stepped alone."""
     state = (program, (), ())
-    while True:
-        place = next_place(state[0])
-        if place is None:
-            return ("done", state[0][1], state[2])
-        if part_at(state[0], place)[0] == "call":
-            if beats == 0:
-                return ("spent", state[2])
-            beats -= 1
+    rows = []
+    while next_place(state[0]) is not None:
+        if len(rows) == most_steps:
+            return None, rows
         state = stepped(state)
-        if parts(state[0]) > most_parts or depth(state[0]) > most_deep:
-            return ("many",)
+        rows.append((parts(state[0]), depth(state[0])))
+    return ("done", state[0][1], state[2]), rows
 
 
 def parts(value):
@@ -91,6 +87,54 @@ def run(program, beats):
     except TooMany as error:
         assert error.count == 6000
         return ("many",)
+
+
+def growing(seed):
+    """A program in whose first steps a thing or a kind is put in, perhaps several times; None if there is no such thing."""
+    maker = CoreMaker(seed)
+    rng = maker.rng
+    kind = rng.choice((PACK, LIST, ("row", (INT, INT)), ("cell", INT), ("to", 0, (INT,), INT), SAME, ("row", (PACK, LIST)), maker.kind(0)))
+    term = maker.term(kind, 0, (), rng.choice((2, 5, 8)))
+    if term is None:
+        return None
+    many = rng.randrange(1, 5)
+
+    def row(number):
+        return ("row", (name(number),) * many)
+
+    def rest(*names, free=0):
+        return maker.term(INT, free, names, rng.choice((0, 0, 4)))
+
+    row_kind = ("row", (kind,) * many)
+    free_row = ("row", (("free", 0),) * many)
+    sort = rng.randrange(9)
+    if sort == 0:
+        return ("let", term, ("let", row(0), rest(kind, row_kind)))
+    if sort == 1:
+        own = ("to", 1, (VAR,), INT)
+        kept = ("fun", 0, (free_row,), ("cell", ("free", 0)), ("cell", name(1)))
+        return ("call", ("fun", 1, (VAR,), INT, ("let", kept, rest(own, ("free", 0), ("to", 0, (free_row,), ("cell", ("free", 0))), free=1))),
+                (kind,), (term,))
+    if sort == 2:
+        return ("match", ("tag", 1, ("one", (INT, kind)), term), (name(0), ("let", row(0), rest(kind, row_kind))))
+    if sort == 3:
+        inner = ("fun", 0, (INT,), INT, ("let", row(0), name(2)))
+        return ("let", term, ("let", inner, ("call", name(1), (), (rest(kind, ("to", 0, (INT,), INT)),))))
+    if sort == 4:
+        return ("let", ("cell", term), ("let", ("row", (("get", name(0)),) * many), rest(("cell", kind), row_kind)))
+    if sort == 5:
+        return ("let", ("fold", ("rec", ("row", (kind, kind))), ("row", (term, term))),
+                ("let", ("row", (("unfold", name(0)),) * many), ONE))
+    if sort == 6:
+        pack = ("some", ("row", (VAR, VAR)))
+        again = ("hide", ("cell", ("free", 0)), ("row", (("cell", ("part", name(0), 0)), ("cell", ("part", name(0), 1)))), pack)
+        return ("open", ("hide", kind, ("row", (term, term)), pack), ("let", again, rest(("row", (("free", 0),) * 2), pack, free=1)))
+    if sort == 7:
+        two = ("fun", 2, (VAR, ("var", 1)), INT, ("let", ("row", (name(2), name(1), name(2))), ("let", ("fun", 1, (("free", 0),), ("free", 1), name(2)), ONE)))
+        return ("call", two, (kind, row_kind), (term, ("row", (term,) * many)))
+    loop = ("fun", 0, (INT, kind), INT, ("when", name(1), rest(("to", 0, (INT, kind), INT), INT, kind),
+            ("let", row(2), ("call", name(0), (), (("sum", "take", name(1), ONE), ("part", name(3), many - 1))))))
+    return ("call", loop, (), (("int", rng.randrange(3)), term))
 
 
 class Steps(Case):
@@ -363,22 +407,42 @@ class RunSteps(Case):
             self.assertIsNone(core_judged(program))
             self.assertEqual(run(program, 0), run_by_steps(program, 0), many)
 
-    def test_sizes_as_step_by_step(self):
-        """With bounds by chance the machine tells just when the next term would be beyond them."""
-        rng = random.Random(20)
-        told = {}
-        for seed in range(500):
-            program = CoreMaker(seed).program(rng.choice((10, 25, 50)))
-            most_parts, most_deep = rng.choice(((rng.randrange(5, 150), 1000), (10 ** 6, rng.randrange(2, 16))))
-            wanted = bounded_run(program, 20, most_parts, most_deep)
-            try:
-                outcome = Machine(program, 20, most_parts, most_deep).outcome()
-            except TooMany as error:
-                self.assertEqual(error.count, most_parts)
-                outcome = ("many",)
-            self.assertEqual(outcome, wanted, (seed, most_parts, most_deep))
-            told[wanted[0]] = told.get(wanted[0], 0) + 1
-        self.assertGreater(min(told["many"], told["done"]), 50)
+    def sizes(self, program, most_steps):
+        """With the greatest size that the steps come to as its bound the machine goes through, with one less it does not."""
+        try:
+            outcome, rows = sizes_by_steps(program, most_steps)
+        except TooMany:
+            return 0
+        if outcome is None or not rows:
+            return 0
+        most_parts, most_deep = max(row[0] for row in rows), max(row[1] for row in rows)
+        self.assertEqual(Machine(program, 1000, most_parts, most_deep).outcome(), outcome, program)
+        self.fails(TooMany, "count", most_parts - 1, Machine(program, 1000, most_parts - 1, most_deep).outcome)
+        self.fails(TooMany, "count", most_parts, Machine(program, 1000, most_parts, most_deep - 1).outcome)
+        return 1
+
+    def test_sizes_of_what_is_put_in(self):
+        done = 0
+        for seed in range(700):
+            program = growing(seed)
+            if program is not None:
+                self.assertIsNone(core_judged(program), program)
+                done += self.sizes(program, 60)
+        self.assertGreater(done, 400)
+
+    def test_sizes_of_random_programs(self):
+        done = 0
+        for seed in range(150):
+            done += self.sizes(CoreMaker(seed).program((5, 10, 25)[seed % 3]), 60)
+        self.assertGreater(done, 60)
+
+    def test_sizes_of_core_of_source_programs(self):
+        texts = ["fun f ( n ) = if n then 1 + f ( n - 1 ) else 0 in f ( 5 )", "fun p ( x ) = ( x , x ) in let a = p ( p ( p ( 1 ) ) ) in 2",
+                 "let c = cell ( fn ( ) 0 ) in c := ( fn ( ) say 3 ; 1 ) ; ( get c ) ( ) + ( get c ) ( )",
+                 SOURCE_LIST + "fun f ( n ) = if n then Cons ( n , f ( n - 1 ) ) else Nil in match f ( 4 ) { Nil -> 0 | Cons ( x , r ) -> x }",
+                 SOURCE_LIST + "fun f ( n , l ) = if n then f ( n - 1 , Cons ( n , l ) ) else l in match f ( 4 , Nil ) { Nil -> 0 | Cons ( x , r ) -> x }"]
+        for text in texts:
+            self.assertEqual(self.sizes(to_core(source_told(text)), 500), 1)
 
     def test_many_beats(self):
         start = time.time()
