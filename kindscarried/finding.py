@@ -6,9 +6,9 @@ from kindscarried.finding_checks import check_words
 from kindscarried.kind_graph import Graph
 from kindscarried.kinds import unfolded
 from kindscarried.measures import keeps_within
-from kindscarried.options import data_table, option_table
+from kindscarried.options import option_table
 from kindscarried.scope import Scopes, variables_at
-from kindscarried.source import check_source, placed_terms
+from kindscarried.source import check_source, inner_written, placed_terms
 
 MOST_OWN = 8
 
@@ -24,7 +24,6 @@ class Finder:
 
     def __init__(self, program, scopes):
         self.datas = program[0]
-        self.by_word = data_table(program[0])
         self.by_option = option_table(program[0])
         self.scopes = scopes
         self.graph = Graph()
@@ -60,8 +59,8 @@ class Finder:
     def open_kinds(self, many):
         return [self.graph.open_kind() for _ in range(many)]
 
-    def data_kind(self, data, nodes):
-        return self.graph.node(("data", data[0]), nodes)
+    def data_kind(self, word, nodes):
+        return self.graph.node(("data", word), nodes)
 
     def told_kinds(self, data, index, nodes):
         """The kinds told by the option with this index, for these of the parameters."""
@@ -69,21 +68,11 @@ class Finder:
         return [self.told_kind(kind, known) for kind in data[2][index][1]]
 
     def told_kind(self, kind, known):
-        word = kind[0]
-        if word == "word" and kind[1] in known:
+        """The node of a written kind, known being those of the data's parameters."""
+        if kind[0] == "word" and kind[1] in known:
             return known[kind[1]]
-        if word == "word":
-            inner = [self.told_kind(part, known) for part in kind[2]]
-            return self.data_kind(self.by_word[kind[1]], inner)
-        if word == "fun":
-            inner = [self.told_kind(part, known) for part in kind[1] + (kind[2],)]
-        elif word == "row":
-            inner = [self.told_kind(part, known) for part in kind[1]]
-        elif word == "cell":
-            inner = [self.told_kind(kind[1], known)]
-        else:
-            inner = []
-        return self.graph.made(word, inner)
+        inner = [self.told_kind(part, known) for part in inner_written(kind)]
+        return self.data_kind(kind[1], inner) if kind[0] == "word" else self.graph.made(kind[0], inner)
 
     def settle(self, function, place):
         """The open kinds of a function that no word around has become its variables."""
@@ -211,14 +200,14 @@ def _find_make(finder, term, place):
     wanted = finder.told_kinds(data, index, kinds)
     for at, node in enumerate(nodes):
         finder.demand(node, wanted[at], place + (at,), place)
-    return finder.data_kind(data, kinds)
+    return finder.data_kind(data[0], kinds)
 
 
 def _find_match(finder, term, place):
     asked = finder.go_through(term[1], place + (0,))
     data, _ = finder.by_option[term[2][0][0]]
     kinds = finder.open_kinds(len(data[1]))
-    finder.demand(asked, finder.data_kind(data, kinds), place + (0,), place)
+    finder.demand(asked, finder.data_kind(data[0], kinds), place + (0,), place)
     nodes = []
     for index, case in enumerate(term[2]):
         finder.bind("case", place, index, finder.told_kinds(data, index, kinds))

@@ -1,6 +1,7 @@
 """Found kinds as tuples: their form, and what is put in them."""
 
 from kindscarried.shapes import begins_with_word
+from kindscarried.source import inner_written
 
 
 def is_found_kind(value, free, by_word):
@@ -58,24 +59,27 @@ def _inner(kind):
     return ()
 
 
+def made_kind(word, data, inner):
+    """The found kind with this word over others; data is the word of a data, and read of one alone."""
+    if word == "int":
+        return ("int",)
+    if word == "fun":
+        return ("fun", inner[:-1], inner[-1])
+    if word == "cell":
+        return ("cell", inner[0])
+    if word == "data":
+        return ("data", data, inner)
+    return ("row", inner)
+
+
 def put_in_found(kind, kinds):
     """The found kind with kinds[j] in the place of each ("free", j)."""
-    word = kind[0]
-    if word == "free":
+    if kind[0] == "free":
         return kinds[kind[1]]
-    if word == "fun":
-        return ("fun", _put_in_all(kind[1], kinds), put_in_found(kind[2], kinds))
-    if word == "row":
-        return ("row", _put_in_all(kind[1], kinds))
-    if word == "cell":
-        return ("cell", put_in_found(kind[1], kinds))
-    if word == "data":
-        return ("data", kind[1], _put_in_all(kind[2], kinds))
-    return kind
-
-
-def _put_in_all(inner, kinds):
-    return tuple([put_in_found(kind, kinds) for kind in inner])
+    if kind[0] in ("int", "open"):
+        return kind
+    inner = tuple([put_in_found(part, kinds) for part in _inner(kind)])
+    return made_kind(kind[0], kind[1], inner)
 
 
 def told_kinds(data, index, kinds):
@@ -85,19 +89,9 @@ def told_kinds(data, index, kinds):
 
 
 def _told_kind(kind, known):
-    word = kind[0]
-    if word == "word" and kind[1] in known:
+    if kind[0] == "int":
+        return kind
+    if kind[0] == "word" and kind[1] in known:
         return known[kind[1]]
-    if word == "word":
-        return ("data", kind[1], _told_all(kind[2], known))
-    if word == "fun":
-        return ("fun", _told_all(kind[1], known), _told_kind(kind[2], known))
-    if word == "row":
-        return ("row", _told_all(kind[1], known))
-    if word == "cell":
-        return ("cell", _told_kind(kind[1], known))
-    return kind
-
-
-def _told_all(inner, known):
-    return tuple([_told_kind(kind, known) for kind in inner])
+    inner = tuple([_told_kind(part, known) for part in inner_written(kind)])
+    return made_kind("data" if kind[0] == "word" else kind[0], kind[1], inner)

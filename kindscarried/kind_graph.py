@@ -5,6 +5,8 @@ nodes when written out, or be nested very deep, takes no more room than the
 program that brings it about; nothing here goes by recursion.
 """
 
+from kindscarried.found_kinds import made_kind
+
 
 class Graph:
     """Nodes, each an open kind or a label over other nodes.
@@ -131,18 +133,5 @@ class Graph:
             if label is None or label[0] == "free":
                 kinds[root] = leaf(root, label)
             else:
-                kinds[root] = _written_out(label, inner)
+                kinds[root] = made_kind(label[0], label[1], inner)
         return kinds[self.root(node)]
-
-
-def _written_out(label, inner):
-    word, data = label
-    if word == "int":
-        return ("int",)
-    if word == "fun":
-        return ("fun", inner[:-1], inner[-1])
-    if word == "cell":
-        return ("cell", inner[0])
-    if word == "data":
-        return ("data", data, inner)
-    return ("row", inner)
