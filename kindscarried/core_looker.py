@@ -15,29 +15,41 @@ MOST_VARIABLES = 8
 
 
 class Scope:
-    """How many kind variables, and names of which kinds, are in scope; what is in the cells."""
+    """How many kind variables, and names of which kinds, are in scope; what is in the cells.
 
-    def __init__(self, free, names, spots):
+    told gets the kind of each term, by its place.
+    """
+
+    def __init__(self, free, names, spots, told):
         self.free = free
         self.names = names
         self.spots = spots
+        self.told = told
 
     def greater(self, variables, kinds):
-        return Scope(self.free + variables, self.names + tuple(kinds), self.spots)
+        return Scope(self.free + variables, self.names + tuple(kinds), self.spots, self.told)
 
 
 def core_judged(program):
     """None if any value is a program of core, else the place of the first fault."""
     try:
-        kind = core_kind(0, (), program)
+        kinds_by_place(program)
     except IllKinded as fault:
         return fault.place
-    return None if kind == INT else ()
+    return None
 
 
 def core_kind(free, names, term, spots=()):
     """The kind of any value as a term; IllKinded with the place of the first fault."""
-    return _kind_of(Scope(free, names, spots), term, ())
+    return _kind_of(Scope(free, names, spots, {}), term, ())
+
+
+def kinds_by_place(program):
+    """The dict from the place of each term of a program to its kind; IllKinded of what is no program."""
+    scope = Scope(0, (), (), {})
+    if _kind_of(scope, program, ()) != INT:
+        raise IllKinded(())
+    return scope.told
 
 
 def _kind_of(scope, term, place):
@@ -47,6 +59,7 @@ def _kind_of(scope, term, place):
     kind = rule(scope, term, place)
     if kind is None or not _is_small(kind):
         raise IllKinded(place)
+    scope.told[place] = kind
     return kind
 
 

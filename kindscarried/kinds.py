@@ -27,12 +27,22 @@ SLOTS = {
 
 def is_kind(free, value, words):
     """Whether the value is a whole kind with these free variables and words."""
+    return _is_whole(value, words, free)
+
+
+def is_kind_anywhere(value, words):
+    """Whether the value is a whole kind with these words, over whatever free variables."""
+    return _is_whole(value, words, None)
+
+
+def _is_whole(value, words, free):
+    """Whether the value is a whole kind; free is None where any free variable may stand."""
     pending = [(value, 0)]
     while pending:
         kind, bound = pending.pop()
         if not _has_form(kind, words):
             return False
-        if kind[0] == "free" and kind[1] >= free:
+        if kind[0] == "free" and free is not None and kind[1] >= free:
             return False
         if kind[0] == "var" and kind[1] >= bound:
             return False
@@ -116,7 +126,7 @@ def inner_kinds(kind):
     return ()
 
 
-def _with_inner(kind, inner):
+def with_inner(kind, inner):
     """The kind with others in the places of the kinds right in it."""
     word = kind[0]
     if word in ("row", "one"):
@@ -139,9 +149,16 @@ def _new_regs(kind, inner):
 
 
 def _remade(whole, leaf):
-    """The kind with leaf(kind, bound) in the place of each "free" and "var".
+    """The kind with leaf(kind, bound) in the place of each "free" and "var"."""
+    return remade(whole, leaf, with_inner)
 
-    bound is how many variables are bound between the whole and this place.
+
+def remade(whole, leaf, node):
+    """The kind made anew, part by part.
+
+    leaf(kind, bound) stands in the place of each "free" and "var", bound being how
+    many variables are bound between the whole and this place; node(kind, inner) in
+    the place of each other kind, inner the tuple of what stands for the kinds in it.
     It goes without recursion: kinds of later levels are nested some hundreds deep.
     """
     done = []
@@ -152,7 +169,7 @@ def _remade(whole, leaf):
             start = len(done) - len(inner_kinds(kind))
             inner = tuple(done[start:])
             del done[start:]
-            done.append(_with_inner(kind, inner))
+            done.append(node(kind, inner))
         elif kind[0] in ("free", "var"):
             done.append(leaf(kind, bound))
         else:
@@ -165,6 +182,9 @@ def _remade(whole, leaf):
 
 def _without_first(kind, kinds):
     """The kinds right in a binder, its first variables being these kinds."""
+    if not kinds:
+        return inner_kinds(kind)
+
     def leaf(part, bound):
         if part[0] == "free" or part[1] < bound:
             return part
@@ -189,7 +209,7 @@ def opened(kind, kinds):
 def opened_first(kind, kinds):
     """The "not" or "code" whose first variables are these kinds."""
     left = (kind[0], kind[1] - len(kinds), kind[2])
-    return _with_inner(left, _without_first(kind, kinds))
+    return with_inner(left, _without_first(kind, kinds))
 
 
 def unfolded(kind):
@@ -212,6 +232,11 @@ def shut(kind, order):
 def filled(kind, kinds):
     """The kind with these kinds in the places of its free variables."""
     return with_free(kind, lambda number: kinds[number])
+
+
+def as_it_is(part, bound):
+    """A leaf that stays."""
+    return part
 
 
 def with_free(kind, told):

@@ -2,6 +2,7 @@
 
 from kindscarried.finding import found
 from kindscarried.integers import check_count, summed
+from kindscarried.stack import Stack
 
 NOTHING = ()
 
@@ -15,54 +16,30 @@ class Function:
         self.scope = scope
 
 
-class Runner:
-    """What is still to be done lies on a stack, and the worths so far on another one.
+def _want(stack, term, scope):
+    stack.tasks.append((term, scope, False))
 
-    So calls within calls, however many, take no recursion. A task is a pair
-    (term, scope) with a truth: whether what the term evaluates first is done. A
-    worth is an integer, a Function, a tuple of worths, a pair (option, worths),
-    or, of a cell, a list of the one worth that it has.
+
+def _outcome(stack, program):
+    """The outcome, told task by task.
+
+    A task is a tuple (term, scope, truth): whether what the term evaluates first
+    is done. A worth is an integer, a Function, a tuple of worths, a pair (option,
+    worths), or, of a cell, a list of the one worth that it has.
     """
-
-    def __init__(self, beats):
-        self.beats = beats
-        self.letters = []
-        self.tasks = []
-        self.worths = []
-
-    def want(self, term, scope):
-        self.tasks.append((term, scope, False))
-
-    def put(self, worth):
-        self.worths.append(worth)
-
-    def take(self, many):
-        """The last worths, as a list, which are gone from the stack."""
-        start = len(self.worths) - many
-        worths = self.worths[start:]
-        del self.worths[start:]
-        return worths
-
-    def take_last(self):
-        return self.worths.pop()
-
-    def begin(self, term, scope):
-        """Puts what a term evaluates first on the stack, and the term behind it."""
-        self.tasks.append((term, scope, True))
-        for inner in reversed(_first_terms(term)):
-            self.want(inner, scope)
-
-    def outcome(self):
-        while self.tasks:
-            term, scope, ready = self.tasks.pop()
-            if not ready:
-                self.begin(term, scope)
-            elif term[0] == "call" and self.beats == 0:
-                return ("spent", tuple(self.letters))
-            else:
-                finish = FINISHES[term[0]]
-                finish(self, term, scope)
-        return ("done", self.worths[0], tuple(self.letters))
+    _want(stack, program, {})
+    while stack.tasks:
+        term, scope, ready = stack.tasks.pop()
+        if not ready:
+            stack.tasks.append((term, scope, True))
+            for inner in reversed(_first_terms(term)):
+                _want(stack, inner, scope)
+        elif term[0] == "call" and stack.beats == 0:
+            return stack.spent()
+        else:
+            finish = FINISHES[term[0]]
+            finish(stack, term, scope)
+    return stack.done(stack.take_last())
 
 
 def _first_terms(term):
@@ -88,87 +65,87 @@ def _with_words(scope, words, worths):
     return inside
 
 
-def _finish_int(runner, term, scope):
-    runner.put(term[1])
+def _finish_int(stack, term, scope):
+    stack.put(term[1])
 
 
-def _finish_name(runner, term, scope):
-    runner.put(scope[term[1]])
+def _finish_name(stack, term, scope):
+    stack.put(scope[term[1]])
 
 
-def _finish_sum(runner, term, scope):
-    first, second = runner.take(2)
-    runner.put(summed(term[1], first, second))
+def _finish_sum(stack, term, scope):
+    first, second = stack.take(2)
+    stack.put(summed(term[1], first, second))
 
 
-def _finish_if(runner, term, scope):
-    asked = runner.take_last()
-    runner.want(term[3] if asked == 0 else term[2], scope)
+def _finish_if(stack, term, scope):
+    asked = stack.take_last()
+    _want(stack, term[3] if asked == 0 else term[2], scope)
 
 
-def _finish_let(runner, term, scope):
-    runner.want(term[3], _with_words(scope, (term[1],), runner.take(1)))
+def _finish_let(stack, term, scope):
+    _want(stack, term[3], _with_words(scope, (term[1],), stack.take(1)))
 
 
-def _finish_split(runner, term, scope):
-    runner.want(term[3], _with_words(scope, term[1], runner.take_last()))
+def _finish_split(stack, term, scope):
+    _want(stack, term[3], _with_words(scope, term[1], stack.take_last()))
 
 
-def _finish_fun(runner, term, scope):
+def _finish_fun(stack, term, scope):
     inside = dict(scope)
     inside[term[1]] = Function(term[2], term[3], inside)
-    runner.want(term[4], inside)
+    _want(stack, term[4], inside)
 
 
-def _finish_fn(runner, term, scope):
-    runner.put(Function(term[1], term[2], scope))
+def _finish_fn(stack, term, scope):
+    stack.put(Function(term[1], term[2], scope))
 
 
-def _finish_call(runner, term, scope):
-    runner.beats = runner.beats - 1
-    worths = runner.take(len(term[2]))
-    function = runner.take_last()
-    runner.want(function.body, _with_words(function.scope, function.words, worths))
+def _finish_call(stack, term, scope):
+    stack.beats = stack.beats - 1
+    worths = stack.take(len(term[2]))
+    function = stack.take_last()
+    _want(stack, function.body, _with_words(function.scope, function.words, worths))
 
 
-def _finish_row(runner, term, scope):
-    runner.put(tuple(runner.take(len(term[1]))))
+def _finish_row(stack, term, scope):
+    stack.put(tuple(stack.take(len(term[1]))))
 
 
-def _finish_make(runner, term, scope):
-    runner.put((term[1], tuple(runner.take(len(term[2])))))
+def _finish_make(stack, term, scope):
+    stack.put((term[1], tuple(stack.take(len(term[2])))))
 
 
-def _finish_match(runner, term, scope):
-    made, worths = runner.take_last()
+def _finish_match(stack, term, scope):
+    made, worths = stack.take_last()
     for option, words, inner in term[2]:
         if option == made:
-            runner.want(inner, _with_words(scope, words, worths))
+            _want(stack, inner, _with_words(scope, words, worths))
 
 
-def _finish_cell(runner, term, scope):
-    runner.put(runner.take(1))
+def _finish_cell(stack, term, scope):
+    stack.put(stack.take(1))
 
 
-def _finish_get(runner, term, scope):
-    cell = runner.take_last()
-    runner.put(cell[0])
+def _finish_get(stack, term, scope):
+    cell = stack.take_last()
+    stack.put(cell[0])
 
 
-def _finish_set(runner, term, scope):
-    cell, worth = runner.take(2)
+def _finish_set(stack, term, scope):
+    cell, worth = stack.take(2)
     cell[0] = worth
-    runner.put(NOTHING)
+    stack.put(NOTHING)
 
 
-def _finish_say(runner, term, scope):
-    runner.letters.append(runner.take_last())
-    runner.put(NOTHING)
+def _finish_say(stack, term, scope):
+    stack.letters.append(stack.take_last())
+    stack.put(NOTHING)
 
 
-def _finish_then(runner, term, scope):
-    runner.take_last()
-    runner.want(term[2], scope)
+def _finish_then(stack, term, scope):
+    stack.take_last()
+    _want(stack, term[2], scope)
 
 
 FINISHES = {
@@ -184,6 +161,4 @@ def run_source(program, beats):
     """The outcome of a source program."""
     found(program)
     check_count(beats)
-    runner = Runner(beats)
-    runner.want(program[1], {})
-    return runner.outcome()
+    return _outcome(Stack(beats), program[1])
