@@ -8,6 +8,7 @@ STORED_WORDS = ("cell", "int", "not", "one", "rec", "room", "some")
 CODE_WORDS = ("cell", "code", "int", "one", "rec", "room", "some")
 
 MOST_VARIABLES = 10000
+SHALLOW = 200
 # What stands behind each word, member by member.
 SLOTS = {
     "int": (),
@@ -249,12 +250,39 @@ def with_free(kind, told):
 
 def fits(kind, wanted):
     """Whether a thing of the kind may stand where the wanted kind is asked for."""
-    if kind == wanted:
-        return True
-    if kind[0] != "room" or wanted[0] != "room" or len(kind[1]) != len(wanted[1]):
+    if kind[0] != "room" or wanted[0] != "room":
+        return _are_same(kind, wanted)
+    if len(kind[1]) != len(wanted[1]):
         return False
     return all([_place_fits(place, other) for place, other in zip(kind[1], wanted[1])])
 
 
 def _place_fits(place, other):
-    return place[0] == other[0] and (place[1] or not other[1])
+    return (place[1] or not other[1]) and _are_same(place[0], other[0])
+
+
+def _are_same(kind, other):
+    """Whether two kinds are the same tuple, however deep they are nested."""
+    # Python compares no deeper than the shallower one is nested, but calls itself for it.
+    if _is_shallow(kind) or _is_shallow(other):
+        return kind == other
+    pending = [(kind, other)]
+    while pending:
+        first, second = pending.pop()
+        if type(first) is tuple and type(second) is tuple:
+            if len(first) != len(second):
+                return False
+            pending.extend(list(zip(first, second)))
+        elif first != second:
+            return False
+    return True
+
+
+def _is_shallow(value):
+    """Whether tuples are nested so few times that Python itself may compare them."""
+    level = [value]
+    for _ in range(SHALLOW):
+        level = [inner for part in level for inner in part if type(inner) is tuple]
+        if not level:
+            return True
+    return False

@@ -248,6 +248,18 @@ class Files(unittest.TestCase):
             "core": ["evaluated", "is_done", "raised", "put_in"],
             "core_looker": ["core_kind", "core_judged"],
             "core_steps": ["stepped", "run_steps"],
+            "core_run": ["run_core"],
+            "turns": ["is_turns"],
+            "turns_looker": ["turns_judged"],
+            "turns_run": ["run_turns"],
+            "to_turns": ["carried", "to_turns"],
+            "closed": ["closed_judged"],
+            "closed_runs": ["run_closed"],
+            "closing": ["closed_kind", "kept_names", "closed_of"],
+            "stored": ["stored_judged", "run_stored"],
+            "storing": ["stored_kind_of", "stored_of"],
+            "alive": ["alive_in", "width_of"],
+            "looker": ["after_row", "check_end", "looked"],
         }
         for module, names in listed.items():
             defined = [node.name for node in ast.parse(source(module + ".py")).body
