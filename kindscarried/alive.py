@@ -80,7 +80,7 @@ class Widths:
         while pending:
             part, names = pending.pop()
             bodies.append((part, names))
-            pending.extend(reversed(_inner_scopes(part, names)))
+            pending.extend(list(reversed(_inner_scopes(part, names))))
         done = []
         for (rows, end), names in reversed(bodies):
             # The bodies in this end came ahead, the first of them last.

@@ -19,7 +19,7 @@ class BlockRun(BodyRun):
         self.bind(NOTHING)
 
     def jumped(self, end, label):
-        self.names = self.worths(end[2])
+        self.names = self.worths_of(end[2])
         return self.blocks[label][2]
 
     def worth(self, thing):

@@ -78,7 +78,7 @@ def remade_body(maker, body, scope):
         rows, end, scopes = maker.rows_and_end(body, scope)
         made.append((rows, end, len(scopes)))
         inner = [part for _, part in inner_bodies(body[1])]
-        pending.extend(reversed(list(zip(inner, scopes))))
+        pending.extend(list(reversed(list(zip(inner, scopes)))))
     done = []
     for rows, end, many in reversed(made):
         bodies = [done.pop() for _ in range(many)]

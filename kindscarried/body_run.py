@@ -30,7 +30,7 @@ class BodyRun:
     def jumped(self, end, worth):
         """The body that a jump to this worth leads to, its names being bound."""
 
-    def worths(self, things):
+    def worths_of(self, things):
         return [self.worth(thing) for thing in things]
 
     def bind(self, worth):

@@ -23,4 +23,4 @@ class ClosedLooker(BlockLooker):
 
 def closed_judged(value):
     """None if any value is a closed program all of whose rules are kept, else the place of the first fault."""
-    return ClosedLooker(value).fault()
+    return ClosedLooker(value).first_fault()

@@ -27,7 +27,7 @@ class BlockLooker:
 
     words are those of its kinds, nothing is the kind of the empty row. names and
     free are those in scope at the place that it comes to, heads the kinds of the
-    labels. told gets, for each thing that is a row, by its place the kinds of what
+    labels. kinds_told gets, for each thing that is a row, by its place the kinds of what
     is in it. Each level tells what stands behind its words (slots_of), and the rules
     of words that not all levels have (more_rules).
     """
@@ -39,7 +39,7 @@ class BlockLooker:
         self.names = []
         self.free = 0
         self.heads = []
-        self.told = {}
+        self.kinds_told = {}
 
     def slots_of(self, sort, word):
         """What stands behind a word of a "row", "end" or "thing"; None if there is no such word."""
@@ -47,12 +47,12 @@ class BlockLooker:
     def more_rules(self, word):
         """The rule of a word of this level; None if it has none."""
 
-    def fault(self):
+    def first_fault(self):
         """None if all rules are kept, else the place of the first fault."""
         try:
             self.look_at_all()
-        except IllKinded as fault:
-            return fault.place
+        except IllKinded as error:
+            return error.place
         return None
 
     def look_at_all(self):
@@ -110,7 +110,7 @@ class BlockLooker:
         if told is None:
             raise IllKinded(place)
         if node[0] == "row":
-            self.told[place] = kinds
+            self.kinds_told[place] = kinds
         return told
 
 

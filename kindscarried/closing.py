@@ -87,10 +87,10 @@ class Closer:
 
     def __init__(self, program):
         self.program = program
-        self.made = functions_made(program)
-        self.kept = all_kept(program, self.made)
+        self.makings = functions_made(program)
+        self.kept = all_kept(program, self.makings)
         self.held = {}
-        for number, made in self.made.items():
+        for number, made in self.makings.items():
             self.held[number] = ("row", tuple([_closed(made.names[name]) for name in self.kept[number]]))
         self.numbers = []
         self.names = 0
@@ -98,7 +98,7 @@ class Closer:
 
     def block(self, number):
         """The block of a function but the start."""
-        made = self.made[number]
+        made = self.makings[number]
         kept = self.kept[number]
         many, kinds, body = self.program[number]
         free = made.free + many
@@ -110,7 +110,7 @@ class Closer:
         for index, name in enumerate(kept):
             numbers[name] = first + index
         numbers.append(first + len(kept))
-        numbers.extend(range(1, first))
+        numbers.extend(list(range(1, first)))
         rows = [("part", ("name", 0), index) for index in range(len(kept))]
         rows.append(self.pair(number, ("name", 0)))
         behind, end = self.body_behind(numbers, first + len(rows), body)
@@ -118,7 +118,7 @@ class Closer:
 
     def pair(self, number, held):
         """The row that makes what a function becomes, of the thing that has what it keeps."""
-        made = self.made[number]
+        made = self.makings[number]
         label = ("at", ("label", number - 1), _frees(0, made.free))
         return ("thing", ("hide", self.held[number], ("row", (label, held)), _closed(made.kind)))
 

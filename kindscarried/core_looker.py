@@ -17,17 +17,17 @@ MOST_VARIABLES = 8
 class Scope:
     """How many kind variables, and names of which kinds, are in scope; what is in the cells.
 
-    told gets the kind of each term, by its place.
+    kinds_told gets the kind of each term, by its place.
     """
 
     def __init__(self, free, names, spots, told):
         self.free = free
         self.names = names
         self.spots = spots
-        self.told = told
+        self.kinds_told = told
 
     def greater(self, variables, kinds):
-        return Scope(self.free + variables, self.names + tuple(kinds), self.spots, self.told)
+        return Scope(self.free + variables, self.names + tuple(kinds), self.spots, self.kinds_told)
 
 
 def core_judged(program):
@@ -49,7 +49,7 @@ def kinds_by_place(program):
     scope = Scope(0, (), (), {})
     if _kind_of(scope, program, ()) != INT:
         raise IllKinded(())
-    return scope.told
+    return scope.kinds_told
 
 
 def _kind_of(scope, term, place):
@@ -59,7 +59,7 @@ def _kind_of(scope, term, place):
     kind = rule(scope, term, place)
     if kind is None or not _is_small(kind):
         raise IllKinded(place)
-    scope.told[place] = kind
+    scope.kinds_told[place] = kind
     return kind
 
 

@@ -68,17 +68,17 @@ class Machine:
     """A run by steps of a right program, with bounds on the parts and the depth of each next term."""
 
     def __init__(self, program, beats, most_parts, most_deep):
-        self.root = sized(program, 0, 0)
+        self.whole = sized(program, 0, 0)
         self.beats = beats
         self.most_parts = most_parts
         self.most_deep = most_deep
-        self.parts = self.root.whole.parts
+        self.parts = self.whole.whole.parts
         self.frames = []
         self.cells = []
         self.letters = []
 
     def outcome(self):
-        thing = self.enter(self.root, (), (), 1, 0)
+        thing = self.enter(self.whole, (), (), 1, 0)
         while self.frames:
             frame = self.frames[-1]
             if thing is not None:

@@ -7,20 +7,20 @@ from kindscarried.integers import check_count, summed
 from kindscarried.stack import Stack
 
 NOTHING = ()
-# The member of a term, beside those within it, that its run looks at.
-TOLD = {"int": 1, "name": 1, "sum": 1, "part": 2, "tag": 1}
+# Which member of a term, beside those within it, its run looks at.
+MEMBERS = {"int": 1, "name": 1, "sum": 1, "part": 2, "tag": 1}
 
 
 class Node:
     """A term made ready for the run.
 
-    told is its number, index or word, if it has one; inner are the terms that it
+    member is its number, index or word, if it has one; inner are the terms that it
     evaluates, the last one first, and bodies the other ones in it.
     """
 
-    def __init__(self, word, told, inner, bodies):
+    def __init__(self, word, member, inner, bodies):
         self.word = word
-        self.told = told
+        self.member = member
         self.inner = inner
         self.bodies = bodies
 
@@ -45,7 +45,7 @@ def _node(term):
         elif slot == "bodies":
             for part in member:
                 bodies.append(_node(part))
-    return Node(word, term[TOLD[word]] if word in TOLD else None, inner, bodies)
+    return Node(word, term[MEMBERS[word]] if word in MEMBERS else None, inner, bodies)
 
 
 def run_core(program, beats):
@@ -78,7 +78,7 @@ def _outcome(stack, program):
         else:
             finish = FINISHES[node.word]
             finish(stack, node, scope)
-    return stack.done(stack.take_last())
+    return stack.ended(stack.take_last())
 
 
 def _want(stack, node, scope):
@@ -86,17 +86,17 @@ def _want(stack, node, scope):
 
 
 def _finish_int(stack, node, scope):
-    stack.put(node.told)
+    stack.put(node.member)
 
 
 def _finish_name(stack, node, scope):
-    stack.put(scope[node.told])
+    stack.put(scope[node.member])
 
 
 def _finish_sum(stack, node, scope):
     second = stack.take_last()
     first = stack.take_last()
-    stack.put(summed(node.told, first, second))
+    stack.put(summed(node.member, first, second))
 
 
 def _finish_when(stack, node, scope):
@@ -126,11 +126,11 @@ def _finish_row(stack, node, scope):
 
 def _finish_part(stack, node, scope):
     row = stack.take_last()
-    stack.put(row[node.told])
+    stack.put(row[node.member])
 
 
 def _finish_tag(stack, node, scope):
-    stack.put((node.told, stack.take_last()))
+    stack.put((node.member, stack.take_last()))
 
 
 def _finish_match(stack, node, scope):

@@ -60,7 +60,7 @@ class Finder:
         return [self.graph.open_kind() for _ in range(many)]
 
     def data_kind(self, word, nodes):
-        return self.graph.node(("data", word), nodes)
+        return self.graph.new_node(("data", word), nodes)
 
     def told_kinds(self, data, index, nodes):
         """The kinds told by the option with this index, for these of the parameters."""

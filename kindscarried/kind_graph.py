@@ -20,17 +20,17 @@ class Graph:
         self.labels = []
         self.inner = []
 
-    def node(self, label, inner):
+    def new_node(self, label, inner):
         self.joined.append(None)
         self.labels.append(label)
         self.inner.append(tuple(inner))
         return len(self.joined) - 1
 
     def open_kind(self):
-        return self.node(None, ())
+        return self.new_node(None, ())
 
     def made(self, word, inner):
-        return self.node((word, None), inner)
+        return self.new_node((word, None), inner)
 
     def root(self, node):
         """The node that all nodes of the same kind lead to."""
@@ -110,7 +110,7 @@ class Graph:
             if root not in copies:
                 old = [self.root(inner) for inner in self.inner[root]]
                 new = [copies[inner] for inner in old]
-                copies[root] = root if new == old else self.node(self.labels[root], new)
+                copies[root] = root if new == old else self.new_node(self.labels[root], new)
         return copies[self.root(node)]
 
     def measured(self, node):

@@ -39,7 +39,7 @@ def _outcome(stack, program):
         else:
             finish = FINISHES[term[0]]
             finish(stack, term, scope)
-    return stack.done(stack.take_last())
+    return stack.ended(stack.take_last())
 
 
 def _first_terms(term):

@@ -31,5 +31,5 @@ class Stack:
     def spent(self):
         return ("spent", tuple(self.letters))
 
-    def done(self, number):
+    def ended(self, number):
         return ("done", number, tuple(self.letters))

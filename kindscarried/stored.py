@@ -51,7 +51,7 @@ RULES = {"part": _part_rule, "room": _room_rule, "put": _put_rule, "tagged": _ta
 
 def stored_judged(value):
     """None if any value is a stored program all of whose rules are kept, else the place of the first fault."""
-    return StoredLooker(value).fault()
+    return StoredLooker(value).first_fault()
 
 
 class StoredRun(BlockRun):

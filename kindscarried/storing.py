@@ -24,28 +24,28 @@ def stored_of(program):
     """The stored program of a closed one."""
     looker = ClosedLooker(program)
     looker.look_at_all()
-    storer = Storer(looker.told)
+    storer = Storer(looker.kinds_told)
     blocks = []
     for number, (many, kinds, body) in enumerate(program[0]):
-        blocks.append((many, _stored_kinds(kinds), storer.body(body, (0, number, 2), len(kinds))))
-    return (tuple(blocks), storer.body(program[1], (1,), 0))
+        blocks.append((many, _stored_kinds(kinds), storer.stored_body(body, (0, number, 2), len(kinds))))
+    return (tuple(blocks), storer.stored_body(program[1], (1,), 0))
 
 
 class Storer:
     """Makes the bodies of one closed program.
 
-    told leads from the place of each thing that is a row to the kinds of what is in
+    kinds_told leads from the place of each thing that is a row to the kinds of what is in
     it. numbers leads from each name in scope to the number of its name here; names is
     how many are in scope here.
     """
 
     def __init__(self, told):
-        self.told = told
+        self.kinds_told = told
         self.numbers = []
         self.names = 0
         self.rows = []
 
-    def body(self, body, place, many):
+    def stored_body(self, body, place, many):
         """What the body at a place becomes, ahead of which so many names are in scope."""
         self.numbers = list(range(many))
         return remade_body(self, body, (place, many, many, 0))
@@ -87,16 +87,16 @@ class Storer:
             start = len(done) - many
             things = done[start:]
             del done[start:]
-            done.append(self.made(sort, node, place, things))
+            done.append(self.made_of(sort, node, place, things))
         return done[0]
 
-    def made(self, sort, node, place, things):
+    def made_of(self, sort, node, place, things):
         """What a row, end or thing becomes, of what becomes of the things in it."""
         word = node[0]
         if word == "name":
             return ("name", self.numbers[node[1]])
         if word == "row":
-            return self.room(_stored_kinds(self.told[place]), things)
+            return self.room(_stored_kinds(self.kinds_told[place]), things)
         if word == "tag":
             return self.added(("tagged", node[1], stored_kind_of(node[2]), things[0]))
         if word == "at":

@@ -4,8 +4,6 @@ from kindscarried.core_looker import kinds_by_place
 from kindscarried.errors import InvalidKind
 from kindscarried.kinds import CORE_WORDS, as_it_is, is_kind_anywhere, remade, with_free, with_inner
 
-EMPTY = ("row", ())
-
 
 def carried(kind):
     """The kind in turns of a kind of core: a function is handed what is to be done next, too."""
@@ -88,7 +86,7 @@ class Turner:
     def bind_empty(self, row):
         """The name of the empty row that a row gives in core; here it binds none."""
         self.body.rows.append(row)
-        return self.bind(("row", EMPTY[1]))
+        return self.bind(("row", ()))
 
     def make(self, many, kinds):
         """The Body of a new function; the name that it has here is the last one ahead of its arguments."""

@@ -17,15 +17,15 @@ def turns_judged(value):
 
 
 def functions_made(value):
-    """The dict from the number of each function but the start to its Made; IllKinded of what is no right program."""
+    """The dict from the number of each function but the start to its Making; IllKinded of what is no right program."""
     if not is_turns(value):
         raise IllKinded(())
     looker = TurnsLooker(value)
     looker.look_at_all()
-    return looker.made
+    return looker.makings
 
 
-class Made:
+class Making:
     """Where a function is made: ahead of the row, the first ones (so many) of names, and free kind variables.
 
     kind is that of the function; names is a list of kinds that may go on growing.
@@ -39,7 +39,7 @@ class Made:
 
 
 class TurnsLooker:
-    """Looks at a program in turns; made has what it found of the functions, by their numbers."""
+    """Looks at a program in turns; makings has what it found of the functions, by their numbers."""
 
     def __init__(self, program):
         self.program = program
@@ -47,7 +47,7 @@ class TurnsLooker:
         self.nothing = ("row", ())
         self.names = []
         self.free = 0
-        self.made = {}
+        self.makings = {}
 
     def look_at_all(self):
         """IllKinded with the place of the first fault."""
@@ -55,7 +55,7 @@ class TurnsLooker:
             names = []
             free = 0
             if number > 0:
-                made = self.made[number]
+                made = self.makings[number]
                 free = made.free + many
                 own = tuple([("free", made.free + index) for index in range(many)])
                 names = made.names[:made.many] + [made.kind] + list(opened(made.kind, own))
@@ -94,7 +94,7 @@ def _fun_rule(looker, row, kinds):
     kind = ("not", many, own)
     if not is_written(looker, kind):
         return None
-    looker.made[row[1]] = Made(looker.names, len(looker.names), looker.free, kind)
+    looker.makings[row[1]] = Making(looker.names, len(looker.names), looker.free, kind)
     return kind
 
 

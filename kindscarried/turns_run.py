@@ -32,7 +32,7 @@ class TurnsRun(BodyRun):
         return RULES.get(word)
 
     def jumped(self, end, function):
-        worths = self.worths(end[3])
+        worths = self.worths_of(end[3])
         self.names = function.names[:function.many] + [function] + worths
         return self.program[function.number][2]
 
@@ -42,7 +42,7 @@ def _fun(run, row):
 
 
 def _row(run, row):
-    run.bind(tuple(run.worths(row[1])))
+    run.bind(tuple(run.worths_of(row[1])))
 
 
 def _tag(run, row):

@@ -261,7 +261,7 @@ class ClosedOf(Case):
             self.assertEqual(run_closed(closed, 1000), ("done", number, letters))
 
     def test_random_programs(self):
-        for seed in range(200):
+        for seed in range(140):
             self.alike(to_turns(CoreMaker(seed).program((8, 20, 50)[seed % 3])), (0, 1, 2, 3, 5, 9, 40))
 
     def test_great_programs(self):

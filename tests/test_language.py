@@ -208,6 +208,42 @@ class Files(unittest.TestCase):
                 if isinstance(node, ast.Attribute):
                     self.assertIn(node.attr, attributes | methods | METHODS, (name, node.lineno))
 
+    def test_no_name_is_a_method_and_an_attribute(self):
+        attributes = set()
+        methods = set()
+        for _, _, tree in self.each():
+            for node in ast.walk(tree):
+                if isinstance(node, ast.Attribute) and isinstance(node.ctx, ast.Store):
+                    attributes.add(node.attr)
+                if isinstance(node, ast.ClassDef):
+                    methods.update(part.name for part in node.body if isinstance(part, ast.FunctionDef))
+        self.assertFalse(attributes & methods)
+
+    def test_what_is_iterated_at_once(self):
+        """zip, enumerate, reversed, range and views stand only where they are gone through on the spot."""
+        lazy = {"zip", "enumerate", "reversed", "range"}
+        takers = {"list", "tuple", "dict", "sorted", "sum", "any", "all", "enumerate", "zip", "min", "max"}
+        for name, _, tree in self.each():
+            right = set()
+            calls = []
+            for node in ast.walk(tree):
+                if isinstance(node, (ast.For, ast.comprehension)):
+                    right.add(node.iter)
+                if isinstance(node, ast.Call):
+                    calls.append(node)
+                    if isinstance(node.func, ast.Name) and node.func.id in takers:
+                        right.add(node.args[0])
+                    if isinstance(node.func, ast.Name) and node.func.id == "reversed" and isinstance(node.args[0], ast.Call):
+                        if isinstance(node.args[0].func, ast.Name) and node.args[0].func.id == "range":
+                            right.add(node.args[0])
+                if isinstance(node, ast.Compare) and isinstance(node.ops[0], (ast.In, ast.NotIn)):
+                    right.add(node.comparators[0])
+            for call in calls:
+                plain = isinstance(call.func, ast.Name) and call.func.id in lazy
+                view = isinstance(call.func, ast.Attribute) and call.func.attr in ("items", "keys", "values")
+                if plain or view:
+                    self.assertIn(call, right, (name, call.lineno))
+
     def test_errors(self):
         for name, _, tree in self.each():
             for node in ast.walk(tree):

@@ -139,7 +139,7 @@ class StoredOf(Case):
             self.assertEqual(run_stored(told, 1000), ("done", number, letters))
 
     def test_random_programs(self):
-        for seed in range(150):
+        for seed in range(100):
             self.alike(closed_of(to_turns(CoreMaker(seed).program((8, 20, 50)[seed % 3]))), (0, 1, 2, 3, 5, 9, 40))
 
     def test_many_beats_and_deep_things(self):
