@@ -80,10 +80,10 @@ class Widths:
         while pending:
             part, names = pending.pop()
             bodies.append((part, names))
-            pending.extend(list(reversed(_inner_scopes(part, names))))
+            pending.extend(_inner_scopes(part, names))
         done = []
         for (rows, end), names in reversed(bodies):
-            # The bodies in this end came ahead, the first of them last.
+            # The bodies in this end came ahead.
             starts = [done.pop() for _ in inner_bodies(end)]
             alive = self.alive_at_end(end, names + len(rows), starts)
             for index in reversed(range(len(rows))):

@@ -18,7 +18,7 @@ def closed_kind(kind):
 
 def _closed(whole):
     done = []
-    # What is around a kind: None, or (binder, what is around this).
+    # What is around a kind: None, or (the kind that it stands right in, what is around this).
     pending = [(whole, None, False)]
     while pending:
         kind, around, ready = pending.pop()
@@ -31,9 +31,8 @@ def _closed(whole):
             done.append(("var", kind[1] + _hidden_within(kind[1], around)))
         else:
             pending.append((kind, around, True))
-            inside = (kind, around) if kind[0] in ("not", "rec", "some") else around
             for inner_kind in reversed(inner_kinds(kind)):
-                pending.append((inner_kind, inside, False))
+                pending.append((inner_kind, (kind, around), False))
     return done[0]
 
 
@@ -47,12 +46,12 @@ def _closed_node(kind, inner):
 def _hidden_within(number, around):
     """How many functions, each of which gets one binder more, stand between a variable and what binds it."""
     many = 0
-    binder, further = around
-    while number >= bound_by(binder):
-        number = number - bound_by(binder)
-        if binder[0] == "not":
+    kind, further = around
+    while number >= bound_by(kind):
+        number = number - bound_by(kind)
+        if kind[0] == "not":
             many = many + 1
-        binder, further = further
+        kind, further = further
     return many
 
 

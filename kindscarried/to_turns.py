@@ -129,12 +129,12 @@ class Turner:
         given = self.value(term, place, scope)
         self.body.last = ("halt", given) if then is None else ("jump", then, (), (given,))
 
-    def inner_body(self, term, place, scope, then, many):
-        """A body in an end, which binds so many names, made of a term."""
+    def inner_body(self, term, place, scope, then, bound):
+        """A body in an end, which binds these names, made of a term."""
         around = self.body
-        inside = Body(around.names + many, around.free)
+        inside = Body(around.names + len(bound), around.free)
         self.body = inside
-        self.end(term, place, scope.greater([("name", around.names)][:many], ()), then)
+        self.end(term, place, scope.greater(bound, ()), then)
         self.body = around
         return inside.told()
 
@@ -163,13 +163,14 @@ def _choice(turner, term, place, scope):
 
 def _end_choice(turner, term, place, scope, asked, then):
     if term[0] == "when":
-        first = turner.inner_body(term[2], place + (2,), scope, then, 0)
-        second = turner.inner_body(term[3], place + (3,), scope, then, 0)
+        first = turner.inner_body(term[2], place + (2,), scope, then, ())
+        second = turner.inner_body(term[3], place + (3,), scope, then, ())
         turner.body.last = ("when", asked, first, second)
         return
+    bound = (("name", turner.body.names),)
     bodies = []
     for index, part in enumerate(term[2]):
-        bodies.append(turner.inner_body(part, place + (2, index), scope, then, 1))
+        bodies.append(turner.inner_body(part, place + (2, index), scope, then, bound))
     turner.body.last = ("match", asked, tuple(bodies))
 
 

@@ -140,6 +140,10 @@ class WidthOf(Case):
         # In a loop whose head has as many, too; things that are no names count as well.
         self.width((((0, (INT,) * 9, ((), ("jump", ("label", 0), (name(8),) + (ONE,) * 8))),), EMPTY), 9)
 
+    def test_a_jump_to_what_is_handed_in(self):
+        self.width((((0, (("not", 0, (INT,) * 9),), ((), ("jump", name(0), (ONE,) * 9))),), EMPTY), 9)
+        self.width((((0, (("not", 0, ()),), ((), ("jump", name(0), ()))),), EMPTY), 1)
+
     def test_rows(self):
         self.width(((), ((("thing", ONE),), HALT)), 1)
         self.width(((), ((("thing", ONE), ("thing", ONE), ("thing", ONE)), HALT)), 1)
@@ -160,6 +164,11 @@ class WidthOf(Case):
         self.width(((), (two + (one,), ("match", name(2), (EMPTY, reads)))), 3)
         self.width(((), (two + (one,), ("match", name(2), (EMPTY, ((("say", name(3)), ("say", name(0))), ("halt", name(1))))))), 3)
         self.width((((0, (INT, INT, BOTH, INT), ((), ("match", name(2), (((("say", name(0)), ("say", name(3))), ("halt", name(1))), EMPTY)))),), EMPTY), 4)
+        # It counts though what is matched is read again, so that no other number is as great.
+        again = ("match", name(0), (((), ("match", name(0), (EMPTY, EMPTY))), EMPTY))
+        self.width(((), ((one,), again)), 2)
+        self.width((((0, (BOTH,), ((), again)),), EMPTY), 2)
+        self.width((((0, (BOTH,), ((), ("match", name(0), (EMPTY, ((), ("when", name(1), EMPTY, ((), ("match", name(0), (EMPTY, EMPTY))))))))),), EMPTY), 2)
         # The greatest one may stand deep within.
         deep = ((), ("when", ONE, EMPTY, ((two + two), ("when", ONE, ((("say", name(0)), ("say", name(1)), ("say", name(2))), ("halt", name(3))), EMPTY))))
         self.width(((), deep), 4)

@@ -195,6 +195,7 @@ class Rules(Case):
     def test_names_of_rows(self):
         """Each row binds a name, a set and say one of the empty row."""
         self.right(((), ((("say", ONE), ("cell", ONE), ("set", name(1), ONE), ("cell", name(2)), ("set", name(3), name(0)), ("get", name(1))), ("halt", name(5)))))
+        self.right(((), ((("say", ONE), ("cell", UNIT), ("set", name(1), name(0)), ("set", name(1), name(2))), HALT)))
         self.ill((1, 1, 1), ((), ((("say", ONE),), ("halt", name(1)))))
         self.ill((1, 1), ((), ((("say", ONE),), ("halt", name(0)))))
 
@@ -218,7 +219,7 @@ class Rules(Case):
                       ("tag", 0, ("one", (INT, FREE)), ONE), ("tag", 0, ("one", (INT, ("room", ()))), ONE)]:
             self.thing(thing, ())
         self.thing(NIL)
-        for thing in [("fold", LIST, ONE), ("fold", LIST, name(4)), ("fold", BOTH, NIL), ("fold", None, ONE), ("fold", ("rec", VAR), ONE)]:
+        for thing in [("fold", LIST, ONE), ("fold", LIST, name(4)), ("fold", BOTH, NIL), ("fold", None, ONE), ("fold", ("rec", VAR), ONE), ("fold", ("cell", INT), ONE)]:
             self.thing(thing, ())
         self.thing(("hide", PAIR, name(2), ("some", VAR)))
         for thing in [("hide", UNIT, ("row", (ONE, ("label", 0))), PACK), ("hide", INT, ONE, PACK), ("hide", INT, ONE, INT), ("hide", FREE, ONE, ("some", VAR)), ("hide", INT, ONE, None), ("hide", None, ONE, ("some", VAR))]:

@@ -263,6 +263,27 @@ class Put(Case):
 
 
 class Fits(Case):
+    def test_kinds_nested_deep(self):
+        """However deep kinds are nested, they are the same or not."""
+        def deep(inner, many=3000):
+            return nested("cell", many, inner)
+
+        rows = [INT, ("free", 0), ("free", 1), ("row", ()), ("row", (INT,)), ("row", (INT, INT)), ("row", (INT, ("row", ()))), ("room", ((INT, True),)), ("room", ((INT, False),)), ("cell", INT),
+                ("not", 0, ()), ("not", 1, ()), ("not", 0, (INT,)), ("code", 0, ((0, INT),)), ("code", 0, ((1, INT),)), ("one", (INT,)), ("some", ("var", 0)), ("rec", ("cell", ("var", 0)))]
+        for first in rows:
+            for second in rows:
+                self.assertIs(fits(deep(first), deep(second)), first == second)
+                self.assertIs(fits(("room", ((deep(first), True),)), ("room", ((deep(second), False),))), first == second)
+            self.assertIs(fits(deep(first), deep(first, 2999)), False)
+            self.assertIs(fits(deep(first, 150), deep(first, 3000)), False)
+            self.assertIs(fits(deep(first, 3000), first), False)
+        for many in (198, 199, 200, 201, 300):
+            self.assertIs(fits(deep(INT, many), deep(INT, many)), True)
+            self.assertIs(fits(deep(INT, many), deep(("row", ()), many)), False)
+        wide = ("row", tuple(deep(INT, 500) for _ in range(5)))
+        self.assertIs(fits(wide, ("row", tuple(deep(INT, 500) for _ in range(5)))), True)
+        self.assertIs(fits(wide, ("row", tuple(deep(INT, 500 - k // 4) for k in range(5)))), False)
+
     def test_rooms(self):
         def room(*truths):
             return ("room", tuple((INT, truth) for truth in truths))

@@ -186,6 +186,7 @@ class Rules(Case):
     def test_other_rows(self):
         self.right(((), ((("say", ONE), ("cell", name(0)), ("set", name(1), name(0)), ("set", name(1), name(2))), HALT)))
         self.ill((1, 0, 1), ((), ((("say", ONE), ("part", name(0), 0)), HALT)))
+        self.right(((), ((("say", ONE), ("room", ()), ("cell", name(1)), ("set", name(2), name(0)), ("set", name(2), name(3))), HALT)))
         for k in (BLANK, SOME, EMPTY_ROOM, TAGGED, CELL):
             self.row(("say", name(k)), ())
             self.row(("sum", "add", ONE, name(k)), ())
