@@ -27,11 +27,20 @@ def width_of(program):
     place = stored_judged(program)
     if place is not None:
         raise IllKinded(place)
+    return max(block_widths(program))
+
+
+def block_widths(program):
+    """The list of the widths of the blocks of a right stored program, one by one, then of its own body."""
+    bodies = [(len(kinds), body) for _, kinds, body in program[0]]
+    return [_width_of_body(body, many) for many, body in bodies + [(0, program[1])]]
+
+
+def _width_of_body(body, many):
+    """The greatest number of things held at once, if a body is handed so many."""
     widths = Widths()
-    for _, kinds, body in program[0]:
-        widths.meet(len(kinds))
-        widths.alive_at_start(body, len(kinds))
-    widths.alive_at_start(program[1], 0)
+    widths.meet(many)
+    widths.alive_at_start(body, many)
     return widths.greatest
 
 
@@ -46,11 +55,11 @@ def _inner_scopes(body, many):
 def _step_back(alive, row, name):
     """Goes from behind a row, which binds a name, to ahead of it."""
     alive.pop(name, None)
-    for read in _names_read("row", row):
+    for read in names_read("row", row):
         alive[read] = True
 
 
-def _names_read(sort, node):
+def names_read(sort, node):
     """The list of the names that a row or end reads, at any depth of its things."""
     names = []
     pending = [(sort, node)]
@@ -105,7 +114,7 @@ class Widths:
             start.pop(names, None)
             self.meet(len(start) + bound)
             alive.update(start)
-        for name in _names_read("end", end):
+        for name in names_read("end", end):
             alive[name] = True
         if end[0] == "jump":
             self.meet(len(end[2]))

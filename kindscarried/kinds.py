@@ -251,17 +251,17 @@ def with_free(kind, told):
 def fits(kind, wanted):
     """Whether a thing of the kind may stand where the wanted kind is asked for."""
     if kind[0] != "room" or wanted[0] != "room":
-        return _are_same(kind, wanted)
+        return are_same(kind, wanted)
     if len(kind[1]) != len(wanted[1]):
         return False
     return all([_place_fits(place, other) for place, other in zip(kind[1], wanted[1])])
 
 
 def _place_fits(place, other):
-    return (place[1] or not other[1]) and _are_same(place[0], other[0])
+    return (place[1] or not other[1]) and are_same(place[0], other[0])
 
 
-def _are_same(kind, other):
+def are_same(kind, other):
     """Whether two kinds are the same tuple, however deep they are nested."""
     # Python compares no deeper than the shallower one is nested, but calls itself for it.
     if _is_shallow(kind) or _is_shallow(other):

@@ -42,42 +42,66 @@ def check_end(code, free, regs, end):
 
 def looked(code):
     """None if any value is code all of whose rows and ends are right, else the place of the first fault."""
+    place = heads_fault(code)
+    return rows_fault(code, 0) if place is None else place
+
+
+def heads_fault(code):
+    """The place of the first fault of any value as code that is no fault of a row or end, None without one."""
     if type(code) is not tuple or len(code) != 2 or type(code[1]) is not tuple:
         return ()
     registers, blocks = code
-    if not is_index(registers) or not 0 < registers <= MOST_REGISTERS:
+    if not is_many_registers(registers):
         return ()
     if not blocks:
         return (0,)
     for number, block in enumerate(blocks):
-        if not _has_head(block, registers) or (number == 0 and block[:2] != (0, ())):
+        if not is_block(block, registers) or (number == 0 and block[:2] != (0, ())):
             return (number,)
-    for number, block in enumerate(blocks):
-        row = _first_fault(code, block)
-        if row is not None:
-            return (number, row)
     return None
 
 
-def _has_head(block, registers):
-    """Whether any value is a block with a right head and a tuple of rows."""
-    if type(block) is not tuple or len(block) != 4 or type(block[2]) is not tuple:
-        return False
-    many, regs, _, _ = block
+def rows_fault(code, first):
+    """The place of the first fault of the rows and ends of the blocks from this one on; all heads are right."""
+    for number, block in enumerate(code[1][first:]):
+        row = _first_fault(code, block)
+        if row is not None:
+            return (first + number, row)
+    return None
+
+
+def is_many_registers(value):
+    return is_index(value) and 0 < value <= MOST_REGISTERS
+
+
+def is_head(many, regs, registers):
+    """Whether any two values are a head of a block of code that has so many registers."""
     if not is_kind(0, ("code", many, regs), CODE_WORDS):
         return False
     return all([number < registers for number, _ in regs])
 
 
+def is_block(value, registers):
+    """Whether any value is a block with a right head and a tuple of rows."""
+    if type(value) is not tuple or len(value) != 4 or type(value[2]) is not tuple:
+        return False
+    return is_head(value[0], value[1], registers)
+
+
 def _first_fault(code, block):
     """The index of the first row of a block that is not right, the end being one more; None if all are."""
     many, regs, rows, end = block
-    own = tuple([("free", index) for index in range(many)])
-    known = Known(code, many, opened(("code", many, regs), own))
+    known = Known(code, many, known_at_first(many, regs))
     for index, row in enumerate(rows):
         if not _goes_on(known, row):
             return index
     return None if _ends(known, end) else len(rows)
+
+
+def known_at_first(many, regs):
+    """The regs that are known at the beginning of a block with this head."""
+    own = tuple([("free", index) for index in range(many)])
+    return opened(("code", many, regs), own)
 
 
 def _goes_on(known, row):

@@ -9,6 +9,25 @@ from kindscarried.shapes import begins_with_word
 AROUND = {"at": (3, 1), "hide": (4, 2), "fold": (3, 2), "unfold": (2, 1)}
 
 
+def innermost(word):
+    """The integer, register or label in a right word."""
+    while word[0] in AROUND:
+        word = word[AROUND[word[0]][1]]
+    return word
+
+
+def with_innermost(word, other):
+    """A right word with another one in the place of the integer, register or label in it."""
+    around = []
+    while word[0] in AROUND:
+        around.append(word)
+        word = word[AROUND[word[0]][1]]
+    for outer in reversed(around):
+        at = AROUND[outer[0]][1]
+        other = outer[:at] + (other,) + outer[at + 1:]
+    return other
+
+
 class Known:
     """What is known at one place of code, whose heads are right.
 

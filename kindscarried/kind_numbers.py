@@ -1,0 +1,42 @@
+"""Numbers for kinds, by which kinds that are the same can be looked up."""
+
+from kindscarried.kinds import remade
+
+
+class KindNumbers:
+    """Gives each kind a number, the same one to kinds that are the same, however deep they are nested."""
+
+    def __init__(self):
+        self.numbers = {}
+
+    def number_of(self, kind):
+        return remade(kind, self.leaf_number, self.number_with)
+
+    def leaf_number(self, kind, bound):
+        return self.number_for(kind)
+
+    def number_with(self, kind, inner):
+        if kind[0] == "room":
+            return self.number_for(("room", inner, tuple([place[1] for place in kind[1]])))
+        if kind[0] in ("to", "not", "code"):
+            return self.number_for((kind[0], kind[1], inner))
+        return self.number_for((kind[0], inner))
+
+    def number_for(self, key):
+        """The number of a kind whose inner kinds are told by their numbers."""
+        if key not in self.numbers:
+            self.numbers[key] = len(self.numbers)
+        return self.numbers[key]
+
+
+def free_written(value):
+    """The dict of the numbers of the free kind variables that stand anywhere in a tuple of a right program."""
+    found = {}
+    pending = [value]
+    while pending:
+        part = pending.pop()
+        if part[:1] == ("free",):
+            found[part[1]] = True
+        else:
+            pending.extend([inner for inner in part if type(inner) is tuple])
+    return found
