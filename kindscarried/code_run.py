@@ -41,7 +41,7 @@ class CodeRun:
         letters = []
         while True:
             self.ahead()
-            told = self.step()
+            told = self.do_step()
             if told is not None:
                 return told[:1] + (told[1], tuple(letters))
             if self.is_beat:
@@ -51,7 +51,7 @@ class CodeRun:
             elif self.said is not None:
                 letters.append(self.said)
 
-    def step(self):
+    def do_step(self):
         """Does a step; ("done", integer) if it halts, ("stuck", word) if it can not be done, else None."""
         self.said = None
         self.is_beat = False
@@ -75,8 +75,8 @@ class CodeRun:
         """A register gets a worth."""
         self.registers[number] = worth
 
-    def change(self, address, thing):
-        """Another thing stands at an address."""
+    def change(self, address, thing, before):
+        """Another thing stands at an address; before is the worth in the former one, if any, that it has no more."""
         self.things[address] = thing
 
     def make(self, number, thing):
@@ -152,7 +152,7 @@ def _store(run, row):
     index = row[2]
     address, worths = run.room_at(run.holding(row[1]), index)
     worth = run.worth(row[3])
-    run.change(address, ("room", worths[:index] + (worth,) + worths[index + 1:]))
+    run.change(address, ("room", worths[:index] + (worth,) + worths[index + 1:]), worths[index])
 
 
 def _tagged(run, row):
@@ -169,8 +169,8 @@ def _get(run, row):
 
 
 def _set(run, row):
-    address, _ = run.thing_at(run.holding(row[1]), "cell")
-    run.change(address, ("cell", run.worth(row[2])))
+    address, cell = run.thing_at(run.holding(row[1]), "cell")
+    run.change(address, ("cell", run.worth(row[2])), cell[1])
 
 
 def _say(run, row):

@@ -21,8 +21,7 @@ def code_kind_of(kind):
 def coded(program, registers):
     """The code of a stored program, for so many registers."""
     told = surveys(program)
-    if not is_index(registers) or not LEAST_REGISTERS <= registers <= MOST_REGISTERS:
-        raise InvalidCount("an integer from 8 to 32 is wanted")
+    check_registers(registers)
     narrow = narrowed_by(program, registers - KEPT_BACK, told)
     maker = BlockMaker(registers, 1 + len(narrow[0]))
     bodies = surveys(narrow)
@@ -31,3 +30,9 @@ def coded(program, registers):
         maker.make_block(many, head_of(many, kinds), bodies[number])
     maker.make_others()
     return (registers, tuple(maker.blocks))
+
+
+def check_registers(value):
+    """InvalidCount unless any value is a number of registers that code may be made for."""
+    if not is_index(value) or not LEAST_REGISTERS <= value <= MOST_REGISTERS:
+        raise InvalidCount("an integer from 8 to 32 is wanted")

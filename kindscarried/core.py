@@ -62,16 +62,19 @@ def raised(term, names, kinds, name_floor=0, kind_floor=0):
     """The term with the numbers of names and kind variables from the floors on greater."""
     if names == 0 and kinds == 0:
         return term
-    return _changed(term, Raising(names, kinds, name_floor, kind_floor), 0, 0)
+    return changed_term(term, Raising(names, kinds, name_floor, kind_floor), 0, 0)
 
 
 def put_in(term, kinds, things):
     """The closed term with these kinds and things in the places of its variables and names."""
-    return _changed(term, Putting(kinds, things), 0, 0)
+    return changed_term(term, Putting(kinds, things), 0, 0)
 
 
-def _changed(term, change, names, kinds):
+def changed_term(term, change, names, kinds):
     """The term changed, below binders of so many names and kind variables.
+
+    change.name_told(i, names, kinds) stands in the place of ("name", i) below so many
+    of them, change.free_told(j) in that of each ("free", j).
 
     It calls itself once for each term that it goes down by, so that terms that
     are nested some hundred deep take no more than some hundred calls.
@@ -81,14 +84,14 @@ def _changed(term, change, names, kinds):
     members = [term[0]]
     for slot, member in zip(SLOTS[term[0]], term[1:]):
         if slot in ("term", "branch"):
-            members.append(_changed(member, change, names, kinds))
+            members.append(changed_term(member, change, names, kinds))
         elif slot == "body":
-            members.append(_changed(member, change, names + names_bound(term), kinds + kinds_bound(term)))
+            members.append(changed_term(member, change, names + names_bound(term), kinds + kinds_bound(term)))
         elif slot in ("terms", "bodies"):
             inside = names + (1 if slot == "bodies" else 0)
             rows = []
             for inner in member:
-                rows.append(_changed(inner, change, inside, kinds))
+                rows.append(changed_term(inner, change, inside, kinds))
             members.append(tuple(rows))
         elif slot in ("kind", "own kind"):
             members.append(with_free(member, change.free_told))

@@ -11,9 +11,10 @@ class Hands:
 
     held leads from each thing in the hands to its name, never more than most of
     them, due to the moment when it is read next, and places from each thing in the
-    room to its place there. What is in the hands may be in the room, too. room_name is that of the room, and empty leads from the number of a kind to the places for it that
-    nothing is in. names is how many names are in scope, free how many kind variables,
-    and rows are those of the body that is being made.
+    room to its place there; what is in the hands may be in the room, too. empty
+    leads from the number of a kind to the places for it in which nothing is. room_name
+    is the name of the room, names is how many names are in scope, free how many kind
+    variables, and rows are those of the body that is being made.
     """
 
     def __init__(self, survey, most):
@@ -54,7 +55,7 @@ class Hands:
             if self.survey.next_read(thing, part.first, part) is None:
                 self.leave_place(thing)
 
-    def add(self, row):
+    def added(self, row):
         """Adds a row, and tells the name that it binds."""
         self.rows.append(row)
         self.names = self.names + 1
@@ -100,7 +101,7 @@ class Hands:
             idle = idle - 1
         for thing in things:
             if thing not in self.held:
-                self.take(thing, self.add(("part", ("name", self.room_name), self.places[thing])), moment)
+                self.take(thing, self.added(("part", ("name", self.room_name), self.places[thing])), moment)
 
     def idlest(self, wanted):
         """What is in the hands, is none of the wanted things, and is read last of all."""
@@ -119,7 +120,7 @@ class Hands:
         self.held.pop(thing)
 
     def put_into_room(self, place, name):
-        self.room_name = self.add(("put", ("name", self.room_name), place, ("name", name)))
+        self.room_name = self.added(("put", ("name", self.room_name), place, ("name", name)))
 
     def make_room(self, moment):
         """Makes the room anew: for what is in it, what is in the hands, and some of what is to come."""
@@ -128,13 +129,13 @@ class Hands:
         things = [inside for inside, _ in before]
         more = [other for other in self.held if other not in self.places]
         more.extend(self.coming(len(things) + SPARE, moment))
-        self.room_name = self.add(("room", tuple([self.survey.kinds[inside] for inside in things + more])))
+        self.room_name = self.added(("room", tuple([self.survey.kinds[inside] for inside in things + more])))
         self.empty = {}
         for index, other in enumerate(more):
             number, _ = self.known_of(other)
             self.empty.setdefault(number, []).append(len(things) + index)
         for place, (inside, former) in enumerate(before):
-            name = self.held[inside] if inside in self.held else self.add(("part", ("name", old), former))
+            name = self.held[inside] if inside in self.held else self.added(("part", ("name", old), former))
             self.put_into_room(place, name)
             self.places[inside] = place
 

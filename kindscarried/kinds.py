@@ -264,7 +264,7 @@ def _place_fits(place, other):
 def are_same(kind, other):
     """Whether two kinds are the same tuple, however deep they are nested."""
     # Python compares no deeper than the shallower one is nested, but calls itself for it.
-    if _is_shallow(kind) or _is_shallow(other):
+    if is_shallow(kind) or is_shallow(other):
         return kind == other
     pending = [(kind, other)]
     while pending:
@@ -278,7 +278,7 @@ def are_same(kind, other):
     return True
 
 
-def _is_shallow(value):
+def is_shallow(value):
     """Whether tuples are nested so few times that Python itself may compare them."""
     level = [value]
     for _ in range(SHALLOW):

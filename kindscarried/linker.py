@@ -13,7 +13,10 @@ MAIN_HEAD = (0, ())
 
 
 def looked_part(part):
-    """None if the heads and blocks of a part are right, else the place of the first fault, asks being counted as blocks."""
+    """None if the heads and blocks of a part are right, else the place of the first fault.
+
+    Asks are counted as blocks ahead of its own.
+    """
     _check_part(part)
     registers, asks, _, blocks = part
     for number, (_, many, regs) in enumerate(asks):

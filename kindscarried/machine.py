@@ -14,7 +14,7 @@ def first_state(code):
 def step(code, state):
     """("on", the next state, the integer said or None), ("halt", integer) or ("stuck", what is met)."""
     machine = CodeRun(code, state)
-    told = machine.step()
+    told = machine.do_step()
     if told is None:
         return ("on", machine.state(), machine.said)
     return ("halt", told[1]) if told[0] == "done" else told

@@ -86,7 +86,7 @@ class Narrower:
         return (tuple(self.hands.rows), new, [below for _ in inner_bodies(body[1])])
 
     def remake_row(self, row, moment, thing):
-        name = self.hands.add(self.remade("row", row, moment, len(self.survey.moments[thing]) > 0))
+        name = self.hands.added(self.remade("row", row, moment, len(self.survey.moments[thing]) > 0))
         if row[0] == "open":
             self.hands.free = self.hands.free + 1
         self.hands.let_go(self.survey.reads[moment], moment + 1)
