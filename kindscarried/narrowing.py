@@ -66,7 +66,8 @@ class Narrower:
         for thing in range(handed):
             self.hands.take(thing, thing, 0)
         self.scope = []
-        self.body = remade_body(self, survey.parts[0].body, (self.hands.whereabouts(), list(range(handed)), handed, free))
+        scope = (self.hands.whereabouts(), list(range(handed)), handed, free)
+        self.body = remade_body(self, survey.parts[0].body, scope)
 
     def rows_and_end(self, body, scope):
         """scope is (what the hands held ahead, the things in scope, how many names are there here, kind variables)."""
