@@ -105,8 +105,11 @@ class Hands:
 
     def idlest(self, wanted):
         """What is in the hands, is none of the wanted things, and is read last of all."""
-        idle = [thing for thing in self.held if thing not in wanted]
-        return max(idle, key=lambda thing: self.due[thing])
+        told = None
+        for thing in self.held:
+            if thing not in wanted and (told is None or self.due[thing] > self.due[told]):
+                told = thing
+        return told
 
     def put_away(self, thing, moment):
         """The thing is in the room, and in the hands no more."""

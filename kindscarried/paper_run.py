@@ -79,12 +79,12 @@ class PaperRun(CodeRun):
         """
         stamps = self.stamps
         last = [None for _ in stamps]
-        for start in sorted(range(len(stamps)), key=lambda address: -stamps[address]):
+        for moment, start in sorted([(stamp, address) for address, stamp in enumerate(stamps)], reverse=True):
             pending = [start]
             while pending:
                 address = pending.pop()
                 if last[address] is None:
-                    last[address] = stamps[start]
+                    last[address] = moment
                     pending.extend(self.led_to(address))
         return last
 

@@ -1,4 +1,4 @@
-"""Papers: what is known ahead of each row and end of code, so that each one is checked by the line ahead of it alone."""
+"""Papers: what is known ahead of each row and end of code, so that each is checked by the line ahead of it alone."""
 
 from kindscarried.errors import IllKinded, InvalidPaper
 from kindscarried.integers import check_count
@@ -72,13 +72,13 @@ def _check_papers(code, papers):
 
 
 def forgotten(code, paper, state):
-    """The state without what the line where it stands leaves out, and without the things to which nothing leads then."""
+    """The state without what the line there leaves out, and without the things to which nothing leads then."""
     _check_papers(code, (paper,))
     return left_by(code, paper, state)
 
 
 def run_by_paper(code, paper, beats):
-    """(outcome, the greatest number of things left) of a run that forgets ahead of each step what the paper leaves out."""
+    """(outcome, the greatest number of things left) of a run that forgets at each step what the paper leaves out."""
     _check_papers(code, (paper,))
     check_count(beats)
     machine = PaperRun(code, paper)

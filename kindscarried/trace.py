@@ -42,23 +42,27 @@ class Trace(CodeRun):
     def go_on(self, many):
         """Goes so many steps, or until the end."""
         while many > 0 and self.result is None:
-            self.steps.append(Done(self.block_number, self.row_number))
+            step = Done(self.block_number, self.row_number)
+            self.steps.append(step)
             told = self.do_step()
-            self.steps[-1].said = self.said
+            step.said = self.said
             if told is not None:
                 self.result = told[1]
             many = many - 1
 
     def write(self, number, worth):
-        self.steps[-1].registers.append((number, self.registers[number]))
+        step = self.steps[-1]
+        step.registers.append((number, self.registers[number]))
         CodeRun.write(self, number, worth)
 
     def change(self, address, thing, before):
-        self.steps[-1].things.append((address, self.things[address]))
+        step = self.steps[-1]
+        step.things.append((address, self.things[address]))
         CodeRun.change(self, address, thing, before)
 
     def make(self, number, thing):
-        self.steps[-1].things.append((len(self.things), None))
+        step = self.steps[-1]
+        step.things.append((len(self.things), None))
         CodeRun.make(self, number, thing)
 
     def go_back(self, many):
@@ -101,6 +105,7 @@ class Trace(CodeRun):
 
     def put_in_place(self, state):
         """Another state stands in the place of the present one; this is no step."""
-        if self.steps and self.steps[-1].whole is None:
-            self.steps[-1].whole = self.state()
+        for step in self.steps[-1:]:
+            if step.whole is None:
+                step.whole = self.state()
         self.stand_at(state)

@@ -295,7 +295,20 @@ class Files(unittest.TestCase):
             "stored": ["stored_judged", "run_stored"],
             "storing": ["stored_kind_of", "stored_of"],
             "alive": ["alive_in", "width_of"],
+            "narrowing": ["narrowed"],
+            "registers": ["moved_at_once"],
+            "codegen": ["code_kind_of", "coded"],
             "looker": ["after_row", "check_end", "looked"],
+            "machine": ["first_state", "step", "run", "run_any"],
+            "collector": ["reached", "gone", "run_collected"],
+            "linker": ["looked_part", "linked"],
+            "octets": ["octets_of", "code_told", "run_octets"],
+            "papers": ["check_paper", "is_paper", "paper_of", "least_paper", "met", "joined", "forgotten", "run_by_paper"],
+            "core_parts": ["size_of"],
+            "passes": ["folded", "inlined", "pruned", "optimised"],
+            "compiler": ["stages", "compiled", "compiled_text", "run_level", "beat_factor"],
+            "commands": ["command_told", "command_text", "outcome_text"],
+            "console": ["Console"],
         }
         for module, names in listed.items():
             defined = [node.name for node in ast.parse(source(module + ".py")).body
