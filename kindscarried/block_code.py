@@ -2,11 +2,26 @@
 
 from kindscarried.bodies import inner_things
 from kindscarried.code_kinds import carried_down
+from kindscarried.kind_forms import MOST_VARIABLES
 from kindscarried.kind_numbers import free_written
-from kindscarried.kinds import MOST_VARIABLES, shut, with_free
+from kindscarried.kinds import shut, with_free
 from kindscarried.registers import moved_at_once
 from kindscarried.stored import stored_slots
 from kindscarried.words import innermost
+
+
+class CodeKinds:
+    """The kinds of code of the things of a survey, each of which is worked out once."""
+
+    def __init__(self, survey):
+        self.survey = survey
+        self.known = {}
+
+    def kind_of_thing(self, thing):
+        """Kind variables are those of the stored program."""
+        if thing not in self.known:
+            self.known[thing] = carried_down(self.survey.kinds[thing])
+        return self.known[thing]
 
 
 class Waiting:
@@ -18,8 +33,9 @@ class Waiting:
     to its number there.
     """
 
-    def __init__(self, survey, part, scope, places, free, frees, regs):
-        self.survey = survey
+    def __init__(self, kinds, part, scope, places, free, frees, regs):
+        self.kinds = kinds
+        self.survey = kinds.survey
         self.part = part
         self.scope = scope
         self.places = places
@@ -48,7 +64,7 @@ class BlockMaker:
         handed = list(range(len(regs)))
         places = {number: number for number in handed if survey.is_alive(number, 0, survey.parts[0])}
         frees = {number: number for number in range(many)}
-        self.make(Waiting(survey, survey.parts[0], handed, places, many, frees, regs))
+        self.make(Waiting(CodeKinds(survey), survey.parts[0], handed, places, many, frees, regs))
 
     def make_others(self):
         """Makes the blocks of all bodies that wait, and of those that wait behind these."""
@@ -157,9 +173,9 @@ class BlockMaker:
         places = self.still_read(now.places, part)
         places.update(self.still_read(bound, part))
         order = self.variables_for(part, places)
-        regs = [(places[thing], shut(carried_down(now.survey.kinds[thing]), order)) for thing in places]
+        regs = [(places[thing], shut(now.kinds.kind_of_thing(thing), order)) for thing in places]
         frees = {old: new for new, old in enumerate(order)}
-        self.waiting.append(Waiting(now.survey, part, scope, places, now.free, frees, tuple(sorted(regs))))
+        self.waiting.append(Waiting(now.kinds, part, scope, places, now.free, frees, tuple(sorted(regs))))
         self.next_label = self.next_label + 1
         given = tuple([("free", now.frees[old]) for old in order])
         return ("at", ("label", self.next_label - 1), given)

@@ -3,8 +3,9 @@
 from kindscarried.bodies import inner_things, look_at_body
 from kindscarried.errors import IllKinded
 from kindscarried.integers import is_index, is_program_integer
+from kindscarried.kind_forms import MOST_VARIABLES
 from kindscarried.kind_rules import INT, are_fitting, shared_rule
-from kindscarried.kinds import MOST_VARIABLES, is_kind, opened
+from kindscarried.kinds import is_kind, opened
 from kindscarried.shapes import begins_with_word
 
 # What stands behind the word of each thing, row and end, as far as it matters

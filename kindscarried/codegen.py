@@ -24,7 +24,8 @@ def coded(program, registers):
     check_registers(registers)
     narrow = narrowed_by(program, registers - KEPT_BACK, told)
     maker = BlockMaker(registers, 1 + len(narrow[0]))
-    bodies = surveys(narrow)
+    # A program that is narrow enough is told as it is.
+    bodies = told if narrow == program else surveys(narrow)
     maker.make_block(0, (), bodies[-1])
     for number, (many, kinds, _) in enumerate(narrow[0]):
         maker.make_block(many, head_of(many, kinds), bodies[number])

@@ -10,7 +10,7 @@ from kindscarried.paper_run import line_numbers
 from kindscarried.passes import optimised
 from kindscarried.source_texts import source_told
 from kindscarried.to_core import to_core
-from kindscarried.trace import Trace
+from kindscarried.console_machine import Trace
 
 PROGRAM = "program"
 CODE = "code"

@@ -1,6 +1,6 @@
 """Where the things of a narrow body are: few in hands, all others in one room."""
 
-from kindscarried.kind_numbers import KindNumbers, free_written
+from kindscarried.kind_numbers import KindNumbers
 
 # How many places more a new room gets than twice what it must hold now.
 SPARE = 16
@@ -78,14 +78,11 @@ class Hands:
 
     def leave_place(self, thing):
         place = self.places.pop(thing)
-        number, _ = self.known_of(thing)
-        self.empty.setdefault(number, []).append(place)
+        self.empty.setdefault(self.kind_number(thing), []).append(place)
 
-    def known_of(self, thing):
-        """(the number of the kind of a thing, how many kind variables must be in scope for it)."""
+    def kind_number(self, thing):
         if thing not in self.known:
-            kind = self.survey.kinds[thing]
-            self.known[thing] = (self.numbers.number_of(kind), max([-1] + list(free_written(kind))) + 1)
+            self.known[thing] = self.numbers.number_of(self.survey.kinds[thing])
         return self.known[thing]
 
     def fetch(self, things, moment, binds):
@@ -114,7 +111,7 @@ class Hands:
     def put_away(self, thing, moment):
         """The thing is in the room, and in the hands no more."""
         if thing not in self.places:
-            number, _ = self.known_of(thing)
+            number = self.kind_number(thing)
             if not self.empty.get(number):
                 self.make_room(moment)
             place = self.empty[number].pop()
@@ -135,15 +132,14 @@ class Hands:
         self.room_name = self.added(("room", tuple([self.survey.kinds[inside] for inside in things + more])))
         self.empty = {}
         for index, other in enumerate(more):
-            number, _ = self.known_of(other)
-            self.empty.setdefault(number, []).append(len(things) + index)
+            self.empty.setdefault(self.kind_number(other), []).append(len(things) + index)
         for place, (inside, former) in enumerate(before):
             name = self.held[inside] if inside in self.held else self.added(("part", ("name", old), former))
             self.put_into_room(place, name)
             self.places[inside] = place
 
     def coming(self, many, moment):
-        """The first ones, so many or fewer, of the things bound from the moment on that a room made now may hold."""
+        """The first ones, so many or fewer, of the things bound from the moment on that a room made now should hold."""
         told = []
         looked_at = 0
         parts = [self.at]
@@ -152,10 +148,10 @@ class Hands:
             inner = []
             for number in parts:
                 part = self.survey.parts[number]
-                for thing in part.things[first:]:
+                for index in range(first, len(part.things)):
                     looked_at = looked_at + 1
-                    if self.survey.moments[thing] and self.is_in_scope(thing):
-                        told.append(thing)
+                    if self.has_use(part.things[index], part.first + index):
+                        told.append(part.things[index])
                     if len(told) == many:
                         return told
                 first = 0
@@ -163,7 +159,9 @@ class Hands:
             parts = inner
         return told
 
-    def is_in_scope(self, thing):
-        """Whether all kind variables in the kind of a thing are in scope now."""
-        _, free = self.known_of(thing)
-        return free <= self.free
+    def has_use(self, thing, moment):
+        """Whether a room made now may hold a thing bound at this moment, and this is not read soon for the last time."""
+        moments = self.survey.moments[thing]
+        if not moments or moments[-1] <= moment + self.most:
+            return False
+        return self.numbers.wanted[self.kind_number(thing)] <= self.free

@@ -1,29 +1,13 @@
 """Kinds: their form, and the variables that they bind."""
 
-from kindscarried.shapes import begins_with_word
+from kindscarried.kind_forms import form_of
 
 CORE_WORDS = ("cell", "int", "one", "rec", "row", "some", "to")
 CLOSED_WORDS = ("cell", "int", "not", "one", "rec", "row", "some")
 STORED_WORDS = ("cell", "int", "not", "one", "rec", "room", "some")
 CODE_WORDS = ("cell", "code", "int", "one", "rec", "room", "some")
 
-MOST_VARIABLES = 10000
 SHALLOW = 200
-# What stands behind each word, member by member.
-SLOTS = {
-    "int": (),
-    "free": ("index",),
-    "var": ("index",),
-    "row": ("kinds",),
-    "one": ("one or more",),
-    "cell": ("kind",),
-    "some": ("kind",),
-    "rec": ("unlike a variable",),
-    "to": ("many", "kinds", "kind"),
-    "not": ("many", "kinds"),
-    "room": ("places",),
-    "code": ("many", "regs"),
-}
 
 
 def is_kind(free, value, words):
@@ -41,90 +25,50 @@ def _is_whole(value, words, free):
     pending = [(value, 0)]
     while pending:
         kind, bound = pending.pop()
-        if not _has_form(kind, words):
+        if type(kind) is not tuple or not kind or type(kind[0]) is not str:
             return False
-        if kind[0] == "free" and free is not None and kind[1] >= free:
+        word = kind[0]
+        if word == "var" or word == "free":
+            most = bound if word == "var" else free
+            if len(kind) != 2 or type(kind[1]) is not int or kind[1] < 0 or (most is not None and kind[1] >= most):
+                return False
+            continue
+        form = form_of(word)
+        if form is None or word not in words:
             return False
-        if kind[0] == "var" and kind[1] >= bound:
+        inner = form(kind)
+        if inner is None:
             return False
-        deeper = bound + bound_by(kind)
-        for inner in inner_kinds(kind):
-            pending.append((inner, deeper))
-    return True
-
-
-def _has_form(value, words):
-    """Whether the value is a kind, whatever the kinds in it may be."""
-    if not begins_with_word(value):
-        return False
-    word = value[0]
-    if word not in SLOTS or (word not in words and word not in ("free", "var")):
-        return False
-    slots = SLOTS[word]
-    if len(value) != len(slots) + 1:
-        return False
-    return all([_fills_slot(slot, member) for slot, member in zip(slots, value[1:])])
-
-
-def _fills_slot(slot, member):
-    if slot == "kind":
-        return True
-    if slot == "index":
-        return type(member) is int and member >= 0
-    if slot == "many":
-        return type(member) is int and 0 <= member <= MOST_VARIABLES
-    if type(member) is not tuple:
-        return False
-    if slot == "one or more":
-        return len(member) > 0
-    if slot == "unlike a variable":
-        return member[:1] != ("free",) and member[:1] != ("var",)
-    if slot == "places":
-        return all([_is_pair(place) and type(place[1]) is bool for place in member])
-    if slot == "regs":
-        return _are_regs(member)
-    return True
-
-
-def _is_pair(value):
-    return type(value) is tuple and len(value) == 2
-
-
-def _are_regs(rows):
-    """Whether these are pairs that begin with rising integers from 0 on."""
-    last = -1
-    for row in rows:
-        if not _is_pair(row) or type(row[0]) is not int or row[0] <= last:
-            return False
-        last = row[0]
+        if inner:
+            bound = bound + bound_by(kind)
+            pending.extend([(part, bound) for part in inner])
     return True
 
 
 def bound_by(kind):
     """How many variables a kind binds in the kinds right in it."""
-    if kind[0] in ("some", "rec"):
+    word = kind[0]
+    if word == "room" or word == "row":
+        return 0
+    if word == "some" or word == "rec":
         return 1
-    if kind[0] in ("to", "not", "code"):
-        return kind[1]
-    return 0
+    return kind[1] if word == "not" or word == "code" or word == "to" else 0
 
 
 def inner_kinds(kind):
     """The tuple of the kinds right in a kind."""
     word = kind[0]
-    if word in ("row", "one"):
-        return kind[1]
-    if word in ("cell", "some", "rec"):
-        return (kind[1],)
-    if word == "to":
-        return kind[2] + (kind[3],)
-    if word == "not":
-        return kind[2]
+    if word == "int" or word == "free" or word == "var":
+        return ()
     if word == "room":
         return tuple([place[0] for place in kind[1]])
+    if word == "row" or word == "one":
+        return kind[1]
+    if word == "not":
+        return kind[2]
     if word == "code":
         return tuple([row[1] for row in kind[2]])
-    return ()
+    return kind[2] + (kind[3],) if word == "to" else (kind[1],)
 
 
 def with_inner(kind, inner):
@@ -163,21 +107,24 @@ def remade(whole, leaf, node):
     It goes without recursion: kinds of later levels are nested some hundreds deep.
     """
     done = []
-    pending = [(whole, 0, False)]
+    pending = [(whole, 0, None)]
     while pending:
-        kind, bound, ready = pending.pop()
-        if ready:
-            start = len(done) - len(inner_kinds(kind))
+        kind, bound, many = pending.pop()
+        if many is not None:
+            start = len(done) - many
             inner = tuple(done[start:])
             del done[start:]
             done.append(node(kind, inner))
-        elif kind[0] in ("free", "var"):
+        elif kind[0] == "var" or kind[0] == "free":
             done.append(leaf(kind, bound))
         else:
-            pending.append((kind, bound, True))
-            deeper = bound + bound_by(kind)
-            for inner_kind in reversed(inner_kinds(kind)):
-                pending.append((inner_kind, deeper, False))
+            inner = inner_kinds(kind)
+            if not inner:
+                done.append(node(kind, ()))
+                continue
+            pending.append((kind, bound, len(inner)))
+            bound = bound + bound_by(kind)
+            pending.extend([(part, bound, None) for part in reversed(inner)])
     return done[0]
 
 
@@ -220,6 +167,8 @@ def unfolded(kind):
 
 def shut(kind, order):
     """The inside of a binder whose variables these free ones become."""
+    if not order:
+        return kind
     indexes = {number: index for index, number in enumerate(order)}
 
     def leaf(part, bound):

@@ -16,25 +16,15 @@ def first_wrong(code, paper):
         return 0
     index = 0
     for many, regs, rows, end in code[1]:
-        wanted = (many, known_at_first(many, regs))
+        checker = LineChecker(code, (many, known_at_first(many, regs)))
         for row in list(rows) + [None]:
-            if index == len(paper) or wanted is None or not _keeps_to(paper[index], wanted):
+            if index == len(paper) or not checker.lets_by(paper[index]):
                 return index
-            line = paper[index]
+            checker.go_on(paper[index], row)
             index = index + 1
-            wanted = _behind(code, line, row)
         if not _ends_right(code, paper[index - 1], end):
             return index - 1
     return None if index == len(paper) else index
-
-
-def _behind(code, line, row):
-    """The line behind a row, of the one ahead of it; None if the row is ill."""
-    free, regs = line
-    try:
-        return after_row(code, free, regs, row)
-    except IllKinded:
-        return None
 
 
 def _ends_right(code, line, end):
@@ -46,28 +36,60 @@ def _ends_right(code, line, end):
     return True
 
 
-def _keeps_to(value, wanted):
-    """Whether any value is a line with this free, and some of these regs."""
-    free, known = wanted
-    if type(value) is not tuple or len(value) != 2 or type(value[1]) is not tuple:
-        return False
-    if not is_integer(value[0]) or value[0] != free:
-        return False
-    kinds = {number: kind for number, kind in known}
-    last = -1
-    for reg in value[1]:
-        if type(reg) is not tuple or len(reg) != 2 or not is_integer(reg[0]) or reg[0] <= last:
+class LineChecker:
+    """Goes down the lines of a block.
+
+    free and kinds are what may stand in the next line: how many kind variables, and the
+    kind of each register; free is None if no line may stand there. texts has what kinds
+    look like, of those that were asked for.
+    """
+
+    def __init__(self, code, line):
+        self.code = code
+        self.free, regs = line
+        self.kinds = {number: kind for number, kind in regs}
+        self.texts = {}
+
+    def lets_by(self, value):
+        """Whether any value is a line with this free, and some of these registers."""
+        if type(value) is not tuple or len(value) != 2 or type(value[1]) is not tuple:
             return False
-        if reg[0] not in kinds or not _is_just(reg[1], kinds[reg[0]]):
+        if not is_integer(value[0]) or value[0] != self.free:
             return False
-        last = reg[0]
-    return True
+        last = -1
+        for reg in value[1]:
+            if type(reg) is not tuple or len(reg) != 2 or not is_integer(reg[0]) or reg[0] <= last:
+                return False
+            if reg[0] not in self.kinds or not self.is_just(reg[1], reg[0]):
+                return False
+            last = reg[0]
+        return True
+
+    def is_just(self, value, number):
+        """Whether any value is just the kind of a register; True is not 1 here."""
+        kind = self.kinds[number]
+        if number not in self.texts:
+            self.texts[number] = repr(kind) if is_shallow(kind) else None
+        if self.texts[number] is None:
+            return _is_just(value, kind)
+        return value == kind and repr(value) == self.texts[number]
+
+    def go_on(self, line, row):
+        """Comes behind a row, of what the line ahead of it tells."""
+        free, regs = line
+        try:
+            self.free, regs = after_row(self.code, free, regs, row)
+        except IllKinded:
+            self.free = None
+            return
+        self.kinds = {number: kind for number, kind in regs}
+        for slot, member in zip(ROWS[row[0]], row[1:]):
+            if slot in ("register", "known"):
+                self.texts.pop(member, None)
 
 
 def _is_just(value, kind):
-    """Whether any value is just this kind; True is not 1 here."""
-    if is_shallow(kind):
-        return value == kind and repr(value) == repr(kind)
+    """Whether any value is just this kind, however deep it is nested."""
     pending = [(value, kind)]
     while pending:
         part, wanted = pending.pop()
