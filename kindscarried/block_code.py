@@ -62,7 +62,7 @@ class BlockMaker:
     def make_block(self, many, regs, survey):
         """Makes the block of a whole body, which is handed its things in registers 0, 1, .. ."""
         handed = list(range(len(regs)))
-        places = {number: number for number in handed if survey.is_alive(number, 0, survey.parts[0])}
+        places = {number: number for number in handed}
         frees = {number: number for number in range(many)}
         self.make(Waiting(CodeKinds(survey), survey.parts[0], handed, places, many, frees, regs))
 
@@ -83,19 +83,17 @@ class BlockMaker:
 
     def make_body(self, now, part):
         """The end of the block, behind the rows for the body; behind a when, what comes if this is not 0 goes on."""
-        for index, row in enumerate(part.body[0]):
-            self.make_row(row, part.first + index, part.things[index], part)
-        end = part.body[1]
-        while end[0] == "when":
+        while True:
+            now.places = self.still_read(now.places, part)
+            rows, end = part.body
+            for index, row in enumerate(rows):
+                self.make_row(row, part.first + index, part.things[index], part)
+            if end[0] == "halt":
+                return ("halt", self.word_of(end[1]))
+            if end[0] != "when":
+                return self.pick(end, part) if end[0] == "match" else self.jump(end)
             self.rows.append(("branch", self.word_of(end[1]), self.goal(part.inner[0], {})))
             part = now.survey.parts[part.inner[1]]
-            now.places = self.still_read(now.places, part)
-            for index, row in enumerate(part.body[0]):
-                self.make_row(row, part.first + index, part.things[index], part)
-            end = part.body[1]
-        if end[0] == "halt":
-            return ("halt", self.word_of(end[1]))
-        return self.pick(end, part) if end[0] == "match" else self.jump(end)
 
     def still_read(self, places, part):
         """The registers of those of these things that a part reads."""

@@ -20,7 +20,23 @@ def is_done(term):
     return True
 
 
-class Raising:
+class Change:
+    """What becomes of a term whose parts are gone through; here, and of what a class below says nothing, all stays."""
+
+    def name_told(self, number, names, kinds):
+        """What stands in the place of the name with a number, below binders of so many names and kind variables."""
+        return ("name", number)
+
+    def kind_told(self, kind):
+        """What stands in the place of a kind."""
+        return kind
+
+    def told(self, term, names, kinds):
+        """What a term becomes, behind those in it."""
+        return term
+
+
+class Raising(Change):
     """Numbers of names and kind variables, from a floor on, become greater."""
 
     def __init__(self, names, kinds, name_floor, kind_floor):
@@ -32,11 +48,11 @@ class Raising:
     def name_told(self, number, names, kinds):
         return ("name", number + self.names if number >= self.name_floor else number)
 
-    def free_told(self, number):
-        return ("free", number + self.kinds if number >= self.kind_floor else number)
+    def kind_told(self, kind):
+        return with_free(kind, lambda number: ("free", number + self.kinds if number >= self.kind_floor else number))
 
 
-class Putting:
+class Putting(Change):
     """Closed kinds and things come in the places of the outermost variables and names."""
 
     def __init__(self, kinds, things):
@@ -45,7 +61,6 @@ class Putting:
         self.raised_things = {}
 
     def name_told(self, number, names, kinds):
-        """What stands for a name below binders of so many names and kind variables."""
         if number >= len(self.things):
             return ("name", number - len(self.things))
         # The binders around come ahead of those of the thing, whose numbers are from 0 on.
@@ -54,8 +69,9 @@ class Putting:
             self.raised_things[key] = raised(self.things[number], names, kinds)
         return self.raised_things[key]
 
-    def free_told(self, number):
-        return self.kinds[number] if number < len(self.kinds) else ("free", number - len(self.kinds))
+    def kind_told(self, kind):
+        many = len(self.kinds)
+        return with_free(kind, lambda number: self.kinds[number] if number < many else ("free", number - many))
 
 
 def raised(term, names, kinds, name_floor=0, kind_floor=0):
@@ -71,10 +87,7 @@ def put_in(term, kinds, things):
 
 
 def changed_term(term, change, names, kinds):
-    """The term changed, below binders of so many names and kind variables.
-
-    change.name_told(i, names, kinds) stands in the place of ("name", i) below so many
-    of them, change.free_told(j) in that of each ("free", j).
+    """The term changed, below binders of so many names and kind variables; inner terms ahead of those around them.
 
     It calls itself once for each term that it goes down by, so that terms that
     are nested some hundred deep take no more than some hundred calls.
@@ -94,9 +107,9 @@ def changed_term(term, change, names, kinds):
                 rows.append(changed_term(inner, change, inside, kinds))
             members.append(tuple(rows))
         elif slot in ("kind", "own kind"):
-            members.append(with_free(member, change.free_told))
+            members.append(change.kind_told(member))
         elif slot in ("kinds", "own kinds"):
-            members.append(tuple([with_free(kind, change.free_told) for kind in member]))
+            members.append(tuple([change.kind_told(kind) for kind in member]))
         else:
             members.append(member)
-    return tuple(members)
+    return change.told(tuple(members), names, kinds)

@@ -160,7 +160,7 @@ class Hands:
         return told
 
     def has_use(self, thing, moment):
-        """Whether a room made now may hold a thing bound at this moment, and this is not read soon for the last time."""
+        """Whether a room made now may hold a thing bound at this moment, and it is not read soon for the last time."""
         moments = self.survey.moments[thing]
         if not moments or moments[-1] <= moment + self.most:
             return False

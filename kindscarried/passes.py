@@ -1,9 +1,8 @@
 """Passes over core programs, which make them smaller and their runs no longer."""
 
-from kindscarried.core import changed_term, raised
+from kindscarried.core import Change, changed_term, raised
 from kindscarried.core_looker import core_judged
 from kindscarried.core_parts import is_thing, size_of, times_named
-from kindscarried.core_shapes import SLOTS, kinds_bound, names_bound
 from kindscarried.errors import IllKinded
 from kindscarried.integers import check_count, summed
 
@@ -14,20 +13,20 @@ INLINED_COUNT = 12
 def folded(program):
     """The program with what is known of its sums, whens, parts, matches and unfolds done."""
     _check_program(program)
-    return _gone_through(program, Folding(), 0, 0)
+    return changed_term(program, Folding(), 0, 0)
 
 
 def inlined(program, count):
     """The program with things of at most so many terms, and the bodies of functions, where they are read once."""
     _check_program(program)
     check_count(count)
-    return _gone_through(program, Inlining(count), 0, 0)
+    return changed_term(program, Inlining(count), 0, 0)
 
 
 def pruned(program):
     """The program without the things that nothing reads."""
     _check_program(program)
-    return _gone_through(program, Pruning(), 0, 0)
+    return changed_term(program, Pruning(), 0, 0)
 
 
 def optimised(program):
@@ -36,7 +35,7 @@ def optimised(program):
     for _ in range(MOST_ROUNDS):
         before = program
         for change in (Folding(), Inlining(INLINED_COUNT), Pruning()):
-            program = _gone_through(program, change, 0, 0)
+            program = changed_term(program, change, 0, 0)
         if program == before:
             break
     return program
@@ -48,26 +47,7 @@ def _check_program(program):
         raise IllKinded(place)
 
 
-def _gone_through(term, change, names, kinds):
-    """What becomes of a term in the scope of so many names and kind variables, behind all terms in it."""
-    members = [term[0]]
-    for slot, member in zip(SLOTS[term[0]], term[1:]):
-        if slot in ("term", "branch"):
-            members.append(_gone_through(member, change, names, kinds))
-        elif slot == "body":
-            members.append(_gone_through(member, change, names + names_bound(term), kinds + kinds_bound(term)))
-        elif slot in ("terms", "bodies"):
-            inside = names + (1 if slot == "bodies" else 0)
-            rows = []
-            for inner in member:
-                rows.append(_gone_through(inner, change, inside, kinds))
-            members.append(tuple(rows))
-        else:
-            members.append(member)
-    return change.told(tuple(members), names, kinds)
-
-
-class Folding:
+class Folding(Change):
     """What folded does with a term."""
 
     def told(self, term, names, kinds):
@@ -86,7 +66,7 @@ class Folding:
         return term
 
 
-class Inlining:
+class Inlining(Change):
     """What inlined does with a term."""
 
     def __init__(self, count):
@@ -116,7 +96,7 @@ def _may_all_go(terms, body, first):
     return all([is_thing(term) and _may_go(term, body, first + index) for index, term in rows])
 
 
-class Pruning:
+class Pruning(Change):
     """What pruned does with a term."""
 
     def told(self, term, names, kinds):
@@ -125,7 +105,7 @@ class Pruning:
         return term
 
 
-class Settling:
+class Settling(Change):
     """Things come in the places of the names that bind them, which are gone.
 
     The first of these names has the number first; so many kind variables, kinds, are in
@@ -144,9 +124,6 @@ class Settling:
             return ("name", number - len(self.things))
         # What the thing itself binds comes behind what is bound between.
         return raised(self.things[number - self.first], names, kinds, self.first, self.kinds)
-
-    def free_told(self, number):
-        return ("free", number)
 
 
 def _with_things(body, things, names, kinds):
