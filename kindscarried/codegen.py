@@ -4,7 +4,7 @@ from kindscarried.block_code import BlockMaker
 from kindscarried.code_kinds import carried_down, head_of
 from kindscarried.errors import InvalidCount
 from kindscarried.integers import is_index
-from kindscarried.narrowing import narrowed_by
+from kindscarried.narrowing import is_narrow, narrowed_by
 from kindscarried.survey import surveys
 
 LEAST_REGISTERS = 8
@@ -22,10 +22,12 @@ def coded(program, registers):
     """The code of a stored program, for so many registers."""
     told = surveys(program)
     check_registers(registers)
-    narrow = narrowed_by(program, registers - KEPT_BACK, told)
+    narrow = program
+    bodies = told
+    if not is_narrow(program, registers - KEPT_BACK):
+        narrow = narrowed_by(program, registers - KEPT_BACK, told)
+        bodies = surveys(narrow)
     maker = BlockMaker(registers, 1 + len(narrow[0]))
-    # A program that is narrow enough is told as it is.
-    bodies = told if narrow == program else surveys(narrow)
     maker.make_block(0, (), bodies[-1])
     for number, (many, kinds, _) in enumerate(narrow[0]):
         maker.make_block(many, head_of(many, kinds), bodies[number])

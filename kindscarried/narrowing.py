@@ -17,14 +17,17 @@ def narrowed(program, width):
     told = surveys(program)
     if not is_index(width) or width < LEAST_WIDTH:
         raise InvalidCount("an integer from 6 on is wanted")
-    return narrowed_by(program, width, told)
+    return program if is_narrow(program, width) else narrowed_by(program, width, told)
+
+
+def is_narrow(program, width):
+    """Whether the width of a right program is at most this one."""
+    return max(block_widths(program)) <= width
 
 
 def narrowed_by(program, width, told):
-    """What narrowed tells of a right program, of which this is what surveys told."""
+    """What narrowed tells of a right program that is wider, and of which this is what surveys told."""
     widths = block_widths(program)
-    if max(widths) <= width:
-        return program
     _check_handed(program, width)
     blocks = []
     for number, (many, kinds, body) in enumerate(program[0]):

@@ -262,6 +262,18 @@ class Others(CodedCase):
             rng.shuffle(order)
             self.codes(((), (ints(many) + says(order), HALT)), (0,))
 
+    def test_deep_bodies(self):
+        begun = time.time()
+        many = 1200
+        body = (ints(12) + says(range(many, many + 12)), HALT)
+        for k in reversed(range(many)):
+            body = (ints(1, k), ("when", ("int", k % 2), body, ((), ("halt", name(k)))) if k % 2 == 0 else ("when", ("int", 1), ((), ("halt", name(k))), body))
+        told = coded(((), body), 8)
+        self.assertIsNone(looked(told))
+        for beats in (0, 100, 2000):
+            self.assertEqual(run(told, beats), run_stored(((), body), beats))
+        self.assertLess(time.time() - begun, 10)
+
     def test_many_beats(self):
         begun = time.time()
         texts = [("fun f ( n ) = if n then f ( n - 1 ) else 7 in f ( 9000 )", 7), ("fun f ( n ) = if n then 1 + f ( n - 1 ) else 0 in f ( 4000 )", 4000),
