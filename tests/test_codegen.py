@@ -210,7 +210,8 @@ class Ends(CodedCase):
     def test_very_many_kind_variables(self):
         # A block may have no more than 10,000; what stands in it has two more.
         opens = (("open", ("hide", INT, ONE, ("some", VAR))), ("cell", name(1)), ("open", ("hide", ("free", 10000), name(1), ("some", VAR))))
-        inner = ((("set", name(2), name(1)), ("thing", ("hide", ("free", 9999), name(0), ("some", VAR))), ("open", name(5)), ("cell", name(6)), ("room", (("free", 10002), ("free", 10001))), ("put", name(8), 0, name(6))),
+        # The kind variable 9998 stands in the rows of the body alone.
+        inner = ((("set", name(2), name(1)), ("thing", ("hide", ("free", 9999), name(0), ("some", VAR))), ("open", name(5)), ("cell", name(6)), ("room", (("free", 10002), ("free", 10001))), ("put", name(8), 0, name(6)), ("room", (("cell", ("free", 9998)), INT))),
                  ("when", ("int", 0), ((("put", name(9), 1, name(3)), ("set", name(7), name(6))), ("halt", ("int", 7))), EMPTY))
         block = (10000, (("var", 9999),), (opens, ("when", ("int", 0), inner, EMPTY)))
         told = self.code(((block,), EMPTY), 8, (0,))

@@ -94,6 +94,20 @@ class PaperCase(Case):
         self.assertIs(is_paper(code, paper), False)
 
 
+def repr_of(kind):
+    """What a kind looks like, however deep it is nested."""
+    texts = []
+    pending = [kind]
+    while pending:
+        part = pending.pop()
+        if type(part) is tuple:
+            texts.append("(%d" % len(part))
+            pending.extend(part)
+        else:
+            texts.append(repr(part))
+    return texts
+
+
 def with_line(paper, index, line):
     return paper[:index] + (line,) + paper[index + 1:]
 
@@ -153,6 +167,29 @@ class Checks(PaperCase):
         self.wrong(CODE, with_line(LEAST, index, (free, (regs[0], (1, ("room", ((INT, 1), (INT, False))))))), index)
         self.wrong(CODE, with_line(LEAST, index, (free, (regs[0], (1, ("room", ((INT, True), (INT, 0))))))), index)
         self.wrong(CODE, with_line(LEAST, 10, (1, ((0, ("free", False)),) + LEAST[10][1][1:])), 10)
+
+    def test_deep_kinds(self):
+        def deep(many, inside, truth=True):
+            kind = ("room", ((inside, truth),))
+            for _ in range(many):
+                kind = ("room", ((kind, True),))
+            return kind
+
+        for many in (30, 60, 66, 70, 150, 250):
+            kind = deep(many, INT)
+            code = (3, ((0, (), (("room", 0, (kind,)), ("room", 1, (kind,)), ("cell", 2, reg(0))), HALT),))
+            full = paper_of(code)
+            self.assertTrue(is_paper(code, full))
+            self.assertTrue(is_paper(code, least_paper(code)))
+            for index, at in ((1, 0), (2, 1), (3, 0), (3, 2)):
+                free, regs = full[index]
+                for inside in (kind, deep(many, INT, 1), deep(many, ONE), deep(many, ("cell", INT)), deep(many + 1, INT), deep(many - 1, INT), deep(many, INT, False), deep(many, INT)):
+                    held = ("room", ((inside, False),))
+                    paper = with_line(full, index, (free, regs[:at] + ((at, ("cell", held) if at == 2 else held),) + regs[at + 1:]))
+                    right = repr_of(inside) == repr_of(kind)
+                    self.assertEqual(is_paper(code, paper), right)
+                    if not right:
+                        self.fails(InvalidPaper, "index", index, check_paper, code, paper)
 
     def test_what_is_left_out_and_wanted(self):
         # Of the least paper nothing may be left out: it is told behind the row that reads it, or at the end.

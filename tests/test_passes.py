@@ -253,6 +253,19 @@ class Optimised(PassCase):
         self.assertEqual(optimised(let(great, ONE)), ONE)
         self.assertEqual(optimised(let(("row", (ONE,) * 11), ("part", name(0), 4))), ONE)
 
+    def test_kind_variables_of_what_goes_further_within(self):
+        # The thing goes below an open and a function with kind variables of its own.
+        some = ("some", ("row", (VAR, ("to", 0, (VAR,), INT))))
+        body = ("call", ("call", name(0), (("to", 0, (("free", 0),), INT),), (("part", name(1), 1),)), (), (("part", name(1), 0),))
+        program = let(("fun", 1, (VAR,), VAR, name(1)), ("open", ("hide", INT, ("row", (ONE, ("fun", 0, (INT,), INT, ("let", ("say", name(2)), name(2))))), some), body))
+        poly = let(("fun", 1, (VAR,), INT, ("call", ("fun", 1, (VAR,), INT, TWO), (FREE,), (name(1),))), ("open", ("hide", INT, ONE, ("some", VAR)), let(("cell", ONE), ("call", name(0), (FREE,), (name(1),)))))
+        for whole in (program, poly):
+            self.assertIsNone(core_judged(whole))
+            told = optimised(whole)
+            self.assertIsNone(core_judged(told))
+            self.assertEqual(told, naive_optimised(whole))
+            self.assertEqual(run_core(told, 50), run_core(whole, 50))
+
     def test_at_most_eight_rounds(self):
         for many in (3, 9, 12, 20):
             term = ("int", 3)
