@@ -88,6 +88,20 @@ class Widths(NarrowCase):
             rng.shuffle(order)
             self.narrow(((), (ints(40) + says(order) + says(order), HALT)), width, (0,))
 
+    def test_each_thing_is_read_once(self):
+        # So many that the room must be made anew, when all hands are full.
+        rng = random.Random(3)
+        for width in (6, 7, 8, 11):
+            for many in (20, 40, 70):
+                order = list(range(many))
+                for _ in range(3):
+                    self.narrow(((), (ints(many) + says(order), HALT)), width, (0,))
+                    rng.shuffle(order)
+                unlike = tuple(("cell", name(k)) for k in range(many))
+                self.narrow(((), (ints(many) + unlike + tuple(("get", name(many + k)) for k in order) + says(range(2 * many, 3 * many)), HALT)), width, (0,))
+                cells = (("thing", ONE),) + tuple(("cell", name(k)) for k in range(many // 3)) + tuple(("set", name(many // 3 - k), name(many // 3 - k - 1)) for k in range(many // 3))
+                self.narrow(((), (cells, HALT)), width, (0,))
+
     def test_only_wide_blocks_are_made_anew(self):
         small = (0, (INT, INT), ((("sum", "add", name(0), name(1)),), ("halt", name(2))))
         great = (0, (INT,), (ints(9) + says(range(10)), ("jump", ("label", 0), (name(0), ONE))))

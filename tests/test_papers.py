@@ -191,6 +191,25 @@ class Checks(PaperCase):
                     if not right:
                         self.fails(InvalidPaper, "index", index, check_paper, code, paper)
 
+    def test_goals_in_registers(self):
+        one = ("one", (INT, UNIT))
+        goal, other = ("code", 0, ((2, INT),)), ("code", 0, ((0, UNIT), (3, UNIT)))
+        head = ((0, one), (1, goal), (2, INT), (3, UNIT), (4, other), (5, INT))
+        rows = (("move", 5, ONE),)
+        least = dict(head[:5])
+
+        def lines(*lots):
+            return tuple((0, tuple((number, least.get(number, INT)) for number in lot)) for lot in lots)
+
+        for end, lots in [(("pick", 0, (reg(1), reg(4))), ((0, 1, 2, 3, 4), (0, 1, 2, 3, 4))), (("jump", reg(1)), ((1, 2), (1, 2))), (("pick", 0, (reg(1), label(0))), ((0, 1, 2), (0, 1, 2))), (("halt", reg(5)), ((), (5,))), (("halt", reg(2)), ((2,), (2,)))]:
+            code = (6, ((0, (), (), HALT), (0, head, rows, end)))
+            self.assertIsNone(looked(code))
+            self.assertEqual(least_paper(code)[1:], lines(*lots))
+            self.right(code, least_paper(code))
+        code = (6, ((0, (), (), HALT), (0, head, (("branch", reg(5), reg(1)), ("branch", ONE, ("unfold", ("fold", ("rec", goal), reg(1))))), HALT)))
+        self.assertIsNone(looked(code))
+        self.assertEqual(least_paper(code)[1:], lines((1, 2, 5), (1, 2), ()))
+
     def test_what_is_left_out_and_wanted(self):
         # Of the least paper nothing may be left out: it is told behind the row that reads it, or at the end.
         for index, (free, regs) in enumerate(LEAST):

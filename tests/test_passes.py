@@ -197,6 +197,14 @@ class Inlined(PassCase):
         for term in (("sum", "add", ONE, ONE), let(SAY, ONE)):
             self.inlines(("call", F, (), (term,)), 50, ("call", F, (), (term,)))
         self.inlines(("call", ("fun", 0, (("row", (INT,)),), INT, TWO), (), (("row", (let(SAY, ONE),)),)), 50, ("call", ("fun", 0, (("row", (INT,)),), INT, TWO), (), (("row", (let(SAY, ONE),)),)))
+        # Each argument by itself: the first, second and third one named twice.
+        for at in range(3):
+            kinds = tuple(("to", 0, (INT,), INT) if k == at else INT for k in range(3))
+            terms = tuple(F if k == at else TWO for k in range(3))
+            again = ("call", name(1 + at), (), (("call", name(1 + at), (), (ONE,)),))
+            self.inlines(("call", ("fun", 0, kinds, INT, again), (), terms), 50, ("call", ("fun", 0, kinds, INT, again), (), terms))
+            once = ("call", name(1 + at), (), (("sum", "add", name(1 + (at + 1) % 3), ("sum", "add", name(1 + (at + 2) % 3), name(1 + (at + 1) % 3))),))
+            self.inlines(("call", ("fun", 0, kinds, INT, once), (), terms), 0, ("call", F, (), (("sum", "add", TWO, ("sum", "add", TWO, TWO)),)))
         # A function that names itself, and one with kind variables.
         self.inlines(("call", ("fun", 0, (INT,), INT, ("when", name(1), ONE, ("call", name(0), (), (ONE,)))), (), (ONE,)), 50, ("call", ("fun", 0, (INT,), INT, ("when", name(1), ONE, ("call", name(0), (), (ONE,)))), (), (ONE,)))
         self.inlines(("call", ("fun", 1, (VAR,), INT, ONE), (INT,), (ONE,)), 50, ("call", ("fun", 1, (VAR,), INT, ONE), (INT,), (ONE,)))
